@@ -1,0 +1,1 @@
+"""Words whose letters can be undone, and the groups that they make."""

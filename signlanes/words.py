@@ -2,6 +2,7 @@
 
 from signlanes.checks import MOST_SIGNS, check_count, check_many, check_word, check_words, is_spelled, is_whole
 from signlanes.errors import InvalidNumber, TooLong
+from signlanes.places import place_behind, powers, put_behind
 from signlanes.signs import order_key, reduced, sign_numbers, undone, written
 
 MOST_NUMBERED = 300
@@ -82,48 +83,32 @@ def how_many_words(many, signs):
     check_count(signs)
     if signs == 0:
         return 1
-    found = 2 * many
-    for _ in range(signs - 1):
-        found *= 2 * many - 1
-    return found
+    return 2 * many * powers(2 * many - 1, signs - 1)[-1]
 
 
 def word_number(many, word):
     """How many plain words are ahead of what a word says."""
     check_many(many)
     check_word(many, word)
-    shorter, place, block, last = 0, 0, 1, None
-    for number in sign_numbers(reduced(word)):
-        # Behind a sign its opposite cannot stand, so all greater signs move up by one.
-        choice = number if last is None or number < last ^ 1 else number - 1
-        place = place * (2 * many - 1) + choice
-        shorter += block
-        block *= 2 * many if last is None else 2 * many - 1
-        last = number
-    return shorter + place
+    numbers = sign_numbers(reduced(word))
+    if numbers == []:
+        return 0
+    steps = powers(2 * many - 1, len(numbers) - 1)
+    shorter = 1 + 2 * many * sum(steps[:-1])
+    return shorter + numbers[0] * steps[-1] + place_behind(2 * many, numbers, 1)
 
 
 def word_numbered(many, number):
     """The plain word ahead of which just so many plain words are."""
     check_many(many)
     check_count(number)
-    if number == 0:
-        return ""
-    rest, size, block = number - 1, 1, 2 * many
+    rest, signs, block = number, 0, 1
     while rest >= block:
-        rest, size, block = rest - block, size + 1, block * (2 * many - 1)
-        if size > MOST_NUMBERED:
+        rest, signs = rest - block, signs + 1
+        block = 2 * many if signs == 1 else block * (2 * many - 1)
+        if signs > MOST_NUMBERED:
             raise TooLong(MOST_NUMBERED + 1)
-    return word_at(many, size, rest)
-
-
-def word_at(many, size, place):
-    """The plain word of so many signs with a place among those of as many signs."""
-    choices = []
-    for _ in range(size - 1):
-        place, choice = divmod(place, 2 * many - 1)
-        choices.append(choice)
-    numbers = [place]
-    for choice in reversed(choices):
-        numbers.append(choice if choice < numbers[-1] ^ 1 else choice + 1)
-    return written(numbers)
+    if signs == 0:
+        return ""
+    first, place = divmod(rest, block // (2 * many))
+    return written(put_behind(2 * many, [first], signs - 1, place))

@@ -105,14 +105,14 @@ def check_quick(test, seconds, call, *args):
 
 
 def say(word):
-    """The plain word that a word says, by taking away two signs at a time."""
-    at = 0
-    while at < len(word) - 1:
-        if word[at] != word[at + 1] and word[at].lower() == word[at + 1].lower():
-            word, at = word[:at] + word[at + 2:], max(0, at - 1)
+    """The plain word that a word says."""
+    left = []
+    for sign in word:
+        if left and left[-1] != sign and left[-1].lower() == sign.lower():
+            left.pop()
         else:
-            at += 1
-    return word
+            left.append(sign)
+    return "".join(left)
 
 
 def back(word):

@@ -9,12 +9,20 @@ from tests.helpers import (ODD, WRONG_COUNT, WRONG_GROUP, WRONG_LIST, WRONG_MANY
                            chance_of, check_owned, check_quick, check_wrong, mixed_list, plain_words, random_list,
                            random_plain, random_word, say, told)
 
-WRONG_ROW = ODD + [0, "a", "1", (1,), [0], [4], [-4], [1, None], [1, True], [True], ["1"], [1, [1]], [10 ** 29], [1, (1,)]]
+WRONG_ROW = ODD + [0, "a", "1", (1,), [0], [4], [-4], [1, None], [1, True], [True], ["1"], [1, [1]], [10 ** 29],
+                   [1, (1,)]]
 
 
 def row_says(words, row):
     """What a row says."""
     return say("".join(words[number - 1] if number > 0 else back(words[-number - 1]) for number in row))
+
+
+def random_row(chance, size, most):
+    """A row over so many words, with at most so many numbers."""
+    if size == 0:
+        return []
+    return [chance.choice((1, -1)) * chance.randint(1, size) for _ in range(chance.randint(0, most))]
 
 
 def is_plain_row(row):
@@ -104,7 +112,7 @@ class BasisTest(unittest.TestCase):
             self.assertIs(row is not None, belongs(group, word))
             if row is not None:
                 self.check_row(group, row, word)
-            sought = [chance.choice((1, -1)) * chance.randint(1, size) for _ in range(chance.randint(0, 8) if size else 0)]
+            sought = random_row(chance, size, 8)
             word = row_says(basis(group), sought)
             row = basis_row(group, word)
             self.check_row(group, row, word)
@@ -166,7 +174,7 @@ class RowTest(unittest.TestCase):
         for _ in range(150):
             many = chance.randint(1, 4)
             words = random_list(chance, many, 8, 8)
-            row = [chance.choice((1, -1)) * chance.randint(1, len(words)) for _ in range(chance.randint(0, 12))] if words else []
+            row = random_row(chance, len(words), 12)
             self.assertEqual(row_word(many, words, row), row_says(words, row))
         self.assertEqual(row_word(2, [], []), "")
         self.assertEqual(row_word(2, ["ab"], [1, -1]), "")
@@ -178,7 +186,8 @@ class RowTest(unittest.TestCase):
         chance = chance_of(35)
         for _ in range(120):
             many = chance.randint(1, 4)
-            words = basis(Group(many, [random_plain(chance, many, chance.randint(1, 8)) for _ in range(chance.randint(0, 4))]))
+            sizes = [chance.randint(1, 8) for _ in range(chance.randint(0, 4))]
+            words = basis(Group(many, [random_plain(chance, many, size) for size in sizes]))
             one, other = words, words
             if len(words) > 1:
                 one, other = mixed_list(chance, many, words, 8, 15), mixed_list(chance, many, words, 8, 15)

@@ -37,7 +37,7 @@ class ClassTest(unittest.TestCase):
         for _ in range(300):
             many = chance.randint(1, 3)
             group = Group(many, random_list(chance, many, 4, 5))
-            one, other = random_word(chance, many, chance.randint(0, 6)), random_word(chance, many, chance.randint(0, 6))
+            one, other = [random_word(chance, many, chance.randint(0, 6)) for _ in range(2)]
             same = belongs(group, one + back(other))
             self.assertIs(class_of(group, one) == class_of(group, other), same)
             self.assertIs(first_of_class(group, one) == first_of_class(group, other), same)

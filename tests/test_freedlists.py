@@ -6,7 +6,8 @@ from signlanes.errors import InvalidList, InvalidNumber, TooMany
 from signlanes.freedlists import freed, is_freed, is_spare, without_spare
 from signlanes.groups import Group
 from tests.helpers import (ODD, WRONG_COUNT, WRONG_LIST, WRONG_MANY, back, chance_of, check_owned, check_quick,
-                           check_wrong, mixed_list, random_list, random_plain, say, slow_member, slow_picture, told)
+                           check_wrong, mixed_list, plain_words, random_list, random_plain, say, slow_member,
+                           slow_picture, told)
 
 
 def row_says(words, row):
@@ -54,8 +55,8 @@ def short_list(chance):
 
 class ExampleTest(unittest.TestCase):
     def test_examples(self):
-        self.assertEqual([without_spare(1, ["aa", "aaa", "a"]), is_spare(1, ["aa", "aaa"], 1), is_spare(2, ["ab", ""], 1)],
-                         [["aa", "aaa"], False, True])
+        self.assertEqual([without_spare(1, ["aa", "aaa", "a"]), is_spare(1, ["aa", "aaa"], 1),
+                          is_spare(2, ["ab", ""], 1)], [["aa", "aaa"], False, True])
         self.assertEqual([is_freed(1, ["aa", "aaa"], ([[2, -1]], [[1, -2, 1, -2, 1]])),
                           is_freed(1, ["aa", "aaa"], ([[2, -1]], [[1, 1, 1, -2, -2]])),
                           is_freed(2, ["", "a"], ([[2]], [[2, 1, -2]])), len(freed(2, ["ab", "ab", "ba"])[1])],
@@ -99,6 +100,17 @@ class FreedTest(unittest.TestCase):
                       ["a" + "B" * 28, "b" + "C" * 28, "c", "a"], ["c" * 20, "c" * 19, "bCC", "a" + "B" * 16]):
             self.check_found(3, words)
 
+    def test_no_word_gets_shorter_at_first(self):
+        self.check_found(4, ["cA", "aB", "bd", "cd"])
+        self.check_found(4, ["cd", "DB", "cA", "Ab"])
+        self.check_found(3, ["caA", "bA", "aB", "Ab"])
+        self.check_found(4, ["ccAA", "aaBB", "bbdd", "DDCC"])
+        self.check_found(4, ["ccaB", "bACa", "AcdB", "dd"])
+        chance = chance_of(45)
+        words = plain_words(3, 3)
+        for _ in range(150):
+            self.check_found(3, [chance.choice(words) for _ in range(4)])
+
     def test_bent_values(self):
         chance = chance_of(41)
         for _ in range(120):
@@ -133,8 +145,9 @@ class FreedTest(unittest.TestCase):
         words = ["a", "aa"]
         self.assertIs(is_freed(1, words, ([[1]], [[1, 1, -2]])), True)
         for value in ODD + [0, "a", [], ([], []), [[[1]], [[1, 1, -2]]], ([[1]],), ([[1]], [[1, 1, -2]], []),
-                            (([1],), [[1, 1, -2]]), ([[1]], ([1, 1, -2],)), ([(1,)], [[1, 1, -2]]), ([[1]], [(1, 1, -2)]),
-                            ([[True]], [[1, 1, -2]]), ([["1"]], [[1, 1, -2]]), ([[1]], [[1, 1, -3]]), ([[1]], [[1, 1, 0]]),
+                            (([1],), [[1, 1, -2]]), ([[1]], ([1, 1, -2],)), ([(1,)], [[1, 1, -2]]),
+                            ([[1]], [(1, 1, -2)]), ([[True]], [[1, 1, -2]]), ([["1"]], [[1, 1, -2]]),
+                            ([[1]], [[1, 1, -3]]), ([[1]], [[1, 1, 0]]),
                             ([[1]], [[1, 1, None]]), ([1], [[1, 1, -2]]), ([[1]], [None]), (None, [[1, 1, -2]]),
                             ([[1]], None), ([[1]], "a"), ([[[1]]], [[1, 1, -2]]), ([[10 ** 29]], [[1, 1, -2]])]:
             self.assertIs(is_freed(1, words, value), False, value)
@@ -148,19 +161,16 @@ class FreedTest(unittest.TestCase):
         value[0][3][0] = 4
         self.assertIs(check_quick(self, 8, is_freed, 4, ["a" * 15, "b" * 15, "c" * 15, "d" * 15], value), False)
         chance = chance_of(42)
-        rows = []
-        for _ in range(4):
-            row = []
-            while len(row) < 20000:
-                row = plain_row(row + [chance.choice((1, -1)) * chance.randint(1, 4)]) if not row else self.longer(chance, row)
-            rows.append(row)
+        rows = [self.long_row(chance) for _ in range(4)]
         self.assertIs(check_quick(self, 8, is_freed, 4, ["a" * 15, "b" * 15, "c" * 15, "d" * 15], (rows, [])), False)
         self.assertIs(check_quick(self, 8, is_freed, 4, ["a", "a", "a", "a" * 57], (rows[:1], rows[1:])), False)
 
-    def longer(self, chance, row):
-        number = chance.choice((1, -1)) * chance.randint(1, 4)
-        if number != -row[-1]:
-            row.append(number)
+    def long_row(self, chance):
+        row = [1]
+        while len(row) < 20000:
+            number = chance.choice((1, -1)) * chance.randint(1, 4)
+            if number != -row[-1]:
+                row.append(number)
         return row
 
     def test_results_belong_to_the_caller(self):

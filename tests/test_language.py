@@ -89,7 +89,7 @@ class LanguageTest(unittest.TestCase):
             for node in functions_of(tree):
                 self.assertLessEqual(node.end_lineno - node.lineno + 1, 40, (path.name, node.name))
                 self.assertEqual(node.decorator_list, [], (path.name, node.name))
-                self.assertTrue(ast.get_docstring(node) or node.name.startswith("__") or True)
+                self.assertTrue(ast.get_docstring(node) or node.name.startswith("__"), (path.name, node.name))
 
     def test_module_level(self):
         for path, tree in trees():
@@ -176,7 +176,8 @@ class LanguageTest(unittest.TestCase):
 
     def test_barred_words(self):
         for path, tree in trees():
-            strings = [node for node in ast.walk(tree) if isinstance(node, ast.Constant) and isinstance(node.value, str)]
+            strings = [node for node in ast.walk(tree)
+                       if isinstance(node, ast.Constant) and isinstance(node.value, str)]
             docs = {ast.get_docstring(node, clean=False) for node in ast.walk(tree)
                     if isinstance(node, (ast.Module, ast.ClassDef, ast.FunctionDef))}
             words = [word for node in strings if node.value not in docs for word in re.findall(r"\w+", node.value)]
@@ -202,7 +203,8 @@ class LanguageTest(unittest.TestCase):
                             and isinstance(item.ctx, ast.Store)}
                     self.assertEqual(len(methods), len(set(methods)))
                     self.assertFalse(mine & set(methods), (path.name, node.name))
-        self.assertFalse(stored & set("items keys values pop update append clear extend insert remove sort args".split()))
+        barred = "items keys values pop update append clear extend insert remove reverse setdefault sort args".split()
+        self.assertFalse(stored & set(barred))
 
     def test_calls(self):
         for path, tree in trees():

@@ -1,12 +1,16 @@
-"""The first word that can be read back to the start in just one of two pictures."""
+"""The first word that can be read back to the start in one of two pictures and not in the other one."""
 
 from signlanes.signs import written
 
 
 class Search:
-    """A search through pairs of spots of two pictures, by plain words in their order."""
+    """A search through pairs of spots of two pictures, by plain words in their order.
 
-    def __init__(self, one, other):
+    It is for a word of either picture, or, if not `either`, for one of the first picture.
+    """
+
+    def __init__(self, one, other, either):
+        self.either = either
         self.left = with_nowhere(one)
         self.right = with_nowhere(other)
         # Each entry is a word: its two spots, its last sign, and the entry of what is ahead of that.
@@ -27,16 +31,24 @@ class Search:
         self.left_out[pair] = None
         return [last_left]
 
+    def goes_on(self, left, right):
+        """Whether a word that leads to a pair of spots can go on to one that is sought."""
+        return left < len(self.left) - 1 or self.either and right < len(self.right) - 1
+
+    def is_sought(self, left, right):
+        """Whether a word that leads to a pair of spots is sought."""
+        return left == 0 and right != 0 or self.either and left != 0 and right == 0
+
     def first_word(self):
-        """The first word that leads to just one of both starts, None if there is none."""
-        nowhere, at = (len(self.left) - 1, len(self.right) - 1), 0
+        """The first word that leads to one of both starts and not to the other one, None without one."""
+        at = 0
         while at < len(self.entries):
             entry = self.entries[at]
             for sign in self.signs_to_try(entry):
-                pair = (self.left[entry[0]][sign], self.right[entry[1]][sign])
-                if pair != nowhere:
-                    self.entries.append((pair[0], pair[1], sign, at))
-                    if (pair[0] == 0) != (pair[1] == 0):
+                left, right = self.left[entry[0]][sign], self.right[entry[1]][sign]
+                if self.goes_on(left, right):
+                    self.entries.append((left, right, sign, at))
+                    if self.is_sought(left, right):
                         return self.last_word()
             at += 1
         return None
@@ -59,4 +71,9 @@ def with_nowhere(rows):
 
 def first_parting(one, other):
     """The first plain word that just one of two pictures reads back to its start, None without one."""
-    return Search(one, other).first_word()
+    return Search(one, other, True).first_word()
+
+
+def first_missing(one, other):
+    """The first plain word that a picture reads back to its start and another one does not, None without one."""
+    return Search(one, other, False).first_word()

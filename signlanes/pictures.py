@@ -36,6 +36,14 @@ class Weave:
         self.lanes[spot][sign] = other
         self.lanes[other][sign ^ 1] = spot
 
+    def put_table(self, rows):
+        """Put in a table of its own, folded already; the number of its first spot is returned."""
+        first = len(self.lanes)
+        for row in rows:
+            self.lanes.append([None if target is None else first + target for target in row])
+            self.merged.append(len(self.merged))
+        return first
+
     def put_loop(self, numbers):
         """Put in a loop for a plain word; only what cannot be read yet needs new spots."""
         head, low = self.read_on(numbers)
@@ -118,6 +126,22 @@ def folded_rows(size, loops):
     for numbers in loops:
         weave.put_loop(numbers)
     return numbered_rows(weave.lanes, 0)
+
+
+def united_rows(rows, pairs):
+    """What a folded table becomes if pairs of spots are put together, numbered from spot 0 on."""
+    weave = Weave(len(rows[0]))
+    first = weave.put_table(rows)
+    for one, other in pairs:
+        weave.unite(first + one, first + other)
+    return numbered_rows(weave.lanes, weave.living(first))
+
+
+def joined_rows(one, other):
+    """The picture of the group of all words of two groups with such pictures."""
+    weave = Weave(len(one[0]))
+    weave.unite(weave.put_table(one), weave.put_table(other))
+    return numbered_rows(weave.lanes, weave.living(1))
 
 
 def picture_rows(many, words):

@@ -39,9 +39,13 @@ class Returns:
             return 0
         return self.sum_at(target, signs - 1) - self.sum_at(spot, signs - 2)
 
+    def from_spot(self, spot, signs):
+        """How many words of so many signs lead from a spot back to the start."""
+        return self.sum_at(spot, signs) - self.sum_at(spot, signs - 2)
+
     def in_all(self, signs):
         """How many words of the group have just so many signs."""
-        return self.sum_at(0, signs) - self.sum_at(0, signs - 2)
+        return self.from_spot(0, signs)
 
     def shorter(self, signs):
         """How many words of the group have fewer signs."""

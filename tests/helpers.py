@@ -5,7 +5,7 @@ import random
 import time
 
 from signlanes.errors import FoldError, InvalidWord
-from signlanes.groups import Group
+from signlanes.groups import Group, group_of
 
 SIGNS = "aAbBcCdDeEfF"
 GROUP = Group(2, ["aa", "b"])
@@ -42,8 +42,9 @@ def check_wrong(test, call, right, kinds):
             args[place] = value
             check_error(test, call, args, kind, value)
             for later_place, _, later in kinds[order + 1:]:
-                args[later_place] = later[0]
-                check_error(test, call, args, kind, value)
+                if later_place != place:
+                    args[later_place] = later[0]
+                    check_error(test, call, args, kind, value)
 
 
 def check_error(test, call, args, kind, value):
@@ -221,6 +222,42 @@ def slow_member(rows, word):
         if at is None:
             return False
     return at == 0
+
+
+def full_picture(chance, many, spots):
+    """A picture in which every sign has a lane from each spot."""
+    while True:
+        rows = [[None] * (2 * many) for _ in range(spots)]
+        for letter in range(many):
+            ends = list(range(spots))
+            chance.shuffle(ends)
+            for spot, end in enumerate(ends):
+                rows[spot][2 * letter], rows[end][2 * letter + 1] = end, spot
+        order = [0]
+        for spot in order:
+            for end in rows[spot]:
+                if end not in order:
+                    order.append(end)
+        if len(order) == spots:
+            return [[order.index(end) for end in rows[spot]] for spot in order]
+
+
+def random_group(chance, many, most_words, most_signs):
+    """A group of a list of words; now and then one of finite index."""
+    if chance.random() < 0.25:
+        return group_of(many, full_picture(chance, many, chance.randint(1, 6)))
+    return Group(many, random_list(chance, many, most_words, most_signs))
+
+
+def lane_total(group):
+    """The number of lanes of a picture, each counted once."""
+    return sum(end is not None for row in group.picture() for end in row) // 2
+
+
+def pasted(words, word):
+    """What a word for letters says if each of them is replaced by a word, its opposite by the opposite."""
+    parts = [words[SIGNS.index(sign) // 2] if sign.islower() else back(words[SIGNS.index(sign) // 2]) for sign in word]
+    return say("".join(parts))
 
 
 def chance_of(seed):

@@ -6,9 +6,8 @@ from signlanes.classes import (class_of, first_of_class, how_many_classes, how_m
                                leader_numbered)
 from signlanes.errors import InvalidGroup, InvalidNumber, InvalidWord, TooLong
 from signlanes.groups import Group, belongs, group_of
-from tests.helpers import (WRONG_COUNT, WRONG_GROUP, WRONG_WORD, back, chance_of, check_quick, check_wrong, place,
-                           plain_words, random_list, random_word, say, told)
-from tests.test_members import full_picture
+from tests.helpers import (WRONG_COUNT, WRONG_GROUP, WRONG_WORD, back, chance_of, check_quick, check_wrong,
+                           full_picture, place, plain_words, random_list, random_word, say, told)
 
 
 class ExampleTest(unittest.TestCase):

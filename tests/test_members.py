@@ -6,28 +6,10 @@ from signlanes.errors import InvalidGroup, InvalidNumber, InvalidWord, TooLong
 from signlanes.groups import Group, belongs, group_of
 from signlanes.members import member_number, member_numbered, members_from, next_member
 from tests.helpers import (WRONG_COUNT, WRONG_GROUP, WRONG_WHOLE, WRONG_WORD, chance_of, check_owned, check_quick,
-                           check_wrong, place, plain_words, random_list, random_plain, random_word, say, slow_member,
-                           told)
+                           check_wrong, full_picture, place, plain_words, random_list, random_plain, random_word, say,
+                           slow_member, told)
 
 ONLY_EMPTY = [Group(1, []), Group(2, [""]), Group(6, ["aA"])]
-
-
-def full_picture(chance, many, spots):
-    """A picture in which every sign has a lane from each spot."""
-    while True:
-        rows = [[None] * (2 * many) for _ in range(spots)]
-        for letter in range(many):
-            ends = list(range(spots))
-            chance.shuffle(ends)
-            for spot, end in enumerate(ends):
-                rows[spot][2 * letter], rows[end][2 * letter + 1] = end, spot
-        order = [0]
-        for spot in order:
-            for end in rows[spot]:
-                if end not in order:
-                    order.append(end)
-        if len(order) == spots:
-            return [[order.index(end) for end in rows[spot]] for spot in order]
 
 
 class ExampleTest(unittest.TestCase):

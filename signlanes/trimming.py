@@ -1,0 +1,36 @@
+"""Tables of lanes without the spots that no plain way passes."""
+
+from signlanes.pictures import copied_rows, numbered_rows
+
+
+def pruned_rows(rows, start):
+    """The rows without the lanes of spots that have a lane of one sign alone, as long as there are such.
+
+    The start keeps its lane; None stands for no start.
+    """
+    left, waiting = copied_rows(rows), list(range(len(rows)))
+    while waiting:
+        spot = waiting.pop()
+        signs = [sign for sign, target in enumerate(left[spot]) if target is not None]
+        if spot != start and len(signs) == 1:
+            sign = signs[0]
+            target = left[spot][sign]
+            left[spot][sign] = None
+            left[target][sign ^ 1] = None
+            waiting.append(target)
+    return left
+
+
+def trimmed_picture(rows, start):
+    """The picture of the group of the plain words that a folded table reads from a spot back to it."""
+    return numbered_rows(pruned_rows(rows, start), start)
+
+
+def has_lanes(row):
+    """Whether any sign has a lane in a row."""
+    return row.count(None) < len(row)
+
+
+def core_spots(rows):
+    """The spots of the core of a picture, in order."""
+    return [spot for spot, row in enumerate(pruned_rows(rows, None)) if has_lanes(row)]

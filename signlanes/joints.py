@@ -2,7 +2,7 @@
 
 from signlanes.pictures import numbered_rows
 from signlanes.trees import first_words, free_lanes
-from signlanes.trimming import trimmed_picture
+from signlanes.trimming import lanes_of, trimmed_picture
 
 
 def led_tuple(tables, spots, sign):
@@ -45,12 +45,11 @@ def spots_gone_to(one, other):
     goes = [0] + [None] * (len(one) - 1)
     for spot, row in enumerate(one):
         # A spot is found from one with a lesser number, so it is known where this one goes.
-        for sign, target in enumerate(row):
-            if target is not None:
-                there = other[goes[spot]][sign]
-                if there is None or goes[target] not in (None, there):
-                    return None
-                goes[target] = there
+        for sign, target in lanes_of(row):
+            there = other[goes[spot]][sign]
+            if there is None or goes[target] not in (None, there):
+                return None
+            goes[target] = there
     return goes
 
 
@@ -58,9 +57,8 @@ def image_rows(one, other, goes):
     """The picture of the spots and lanes of one picture to which those of another one go."""
     table = [[None] * len(other[0]) for _ in other]
     for spot, row in enumerate(one):
-        for sign, target in enumerate(row):
-            if target is not None:
-                table[goes[spot]][sign] = goes[target]
+        for sign, target in lanes_of(row):
+            table[goes[spot]][sign] = goes[target]
     return numbered_rows(table, 0)
 
 
@@ -81,8 +79,8 @@ def parts_without(rows, goes, signs):
         while waiting:
             spot = waiting.pop()
             parts[spot] = first
-            for sign, target in enumerate(rows[spot]):
-                if target is not None and parts[target] is None and (goes[spot], sign) not in signs:
+            for sign, target in lanes_of(rows[spot]):
+                if parts[target] is None and (goes[spot], sign) not in signs:
                     waiting.append(target)
     return parts
 
@@ -93,7 +91,7 @@ def inner_rows(one, other, goes):
     parts = parts_without(one, goes, signs)
     table = [[None] * len(signs) for _ in one]
     for spot, row in enumerate(one):
-        for sign, target in enumerate(row):
-            if target is not None and (goes[spot], sign) in signs:
+        for sign, target in lanes_of(row):
+            if (goes[spot], sign) in signs:
                 table[parts[spot]][signs[(goes[spot], sign)]] = parts[target]
     return numbered_rows(table, 0)

@@ -11,14 +11,18 @@ def pruned_rows(rows, start):
     left, waiting = copied_rows(rows), list(range(len(rows)))
     while waiting:
         spot = waiting.pop()
-        signs = [sign for sign, target in enumerate(left[spot]) if target is not None]
-        if spot != start and len(signs) == 1:
-            sign = signs[0]
-            target = left[spot][sign]
+        lanes = lanes_of(left[spot])
+        if spot != start and len(lanes) == 1:
+            sign, target = lanes[0]
             left[spot][sign] = None
             left[target][sign ^ 1] = None
             waiting.append(target)
     return left
+
+
+def lanes_of(row):
+    """The signs that have lanes in a row, and where these lead."""
+    return [(sign, target) for sign, target in enumerate(row) if target is not None]
 
 
 def trimmed_picture(rows, start):
@@ -26,11 +30,6 @@ def trimmed_picture(rows, start):
     return numbered_rows(pruned_rows(rows, start), start)
 
 
-def has_lanes(row):
-    """Whether any sign has a lane in a row."""
-    return row.count(None) < len(row)
-
-
 def core_spots(rows):
     """The spots of the core of a picture, in order."""
-    return [spot for spot, row in enumerate(pruned_rows(rows, None)) if has_lanes(row)]
+    return [spot for spot, row in enumerate(pruned_rows(rows, None)) if lanes_of(row) != []]

@@ -28,7 +28,7 @@ class Completions:
         self.apart = [powers(order, many - 1)[-1] for order in self.orders]
         self.known = {}
 
-    def count(self, spots, lanes):
+    def ways_on(self, spots, lanes):
         """How many pictures go on from a part with so many spots and lanes of each letter."""
         key = (spots, tuple(sorted(lanes)))
         if key not in self.known:

@@ -15,7 +15,7 @@ def how_many_groups(many, index):
     check_many(many)
     if not is_whole(index) or not 1 <= index <= MOST_INDEX:
         raise InvalidNumber(index)
-    return Completions(many, index).count(1, [0] * many)
+    return Completions(many, index).ways_on(1, [0] * many)
 
 
 def is_full(rows):
@@ -45,7 +45,7 @@ def group_numbered(many, index, number):
         spot, sign = divmod(at, 2 * many)
         if rows[spot][sign] is None:
             lanes[sign // 2] += 1
-            reached, count = open_spots(rows, sign), ways.count(len(rows), lanes)
+            reached, count = open_spots(rows, sign), ways.ways_on(len(rows), lanes)
             if number < len(reached) * count:
                 place, number = divmod(number, count)
                 target = reached[place]
@@ -69,7 +69,7 @@ def group_number(group):
             target = group.lane_rows[spot][sign]
             lanes[sign // 2] += 1
             lesser = [other for other in open_spots(rows, sign) if other < target]
-            number += len(lesser) * ways.count(len(rows), lanes)
+            number += len(lesser) * ways.ways_on(len(rows), lanes)
             if target == len(rows):
                 rows.append([None] * (2 * many))
             rows[spot][sign] = target

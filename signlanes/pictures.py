@@ -137,6 +137,18 @@ def united_rows(rows, pairs):
     return numbered_rows(weave.lanes, weave.living(first))
 
 
+def woven_rows(size, spots, lanes, pairs):
+    """What so many spots with lanes become if pairs of spots are put together, and all that follows."""
+    weave = Weave(size)
+    first = weave.put_table([[None] * size for _ in range(spots)])
+    for one, sign, other in lanes:
+        for left, right in weave.link(weave.living(first + one), sign, weave.living(first + other)):
+            weave.unite(left, right)
+    for one, other in pairs:
+        weave.unite(first + one, first + other)
+    return numbered_rows(weave.lanes, weave.living(first))
+
+
 def joined_rows(one, other):
     """The picture of the group of all words of two groups with such pictures."""
     weave = Weave(len(one[0]))

@@ -5,15 +5,7 @@ less; it is then held against the numbers themselves. It cannot have fewer items
 modulo a number, so that it is the least one if it stands for the numbers.
 """
 
-
-def inverse_of(number, modulus):
-    """What a number has to be taken times to be 1 modulo another one, None if nothing does."""
-    one, other, step, next_step = number % modulus, modulus, 1, 0
-    while other:
-        times = one // other
-        one, other = other, one - times * other
-        step, next_step = next_step, step - times * next_step
-    return step % modulus if one == 1 else None
+from signlanes.remainders import inverse_of
 
 
 def lessened(now, before, factor, gap, modulus):

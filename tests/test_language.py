@@ -26,6 +26,9 @@ TAKERS = {"list", "tuple", "dict", "sorted", "sum", "any", "all", "enumerate", "
 NODES_OUT = (ast.Global, ast.AsyncFunctionDef, ast.Await, ast.AsyncFor, ast.AsyncWith, ast.GeneratorExp, ast.Yield,
              ast.YieldFrom, ast.Try, ast.With, ast.Div, ast.MatMult, ast.Import)
 METHODS_IN_CLASS = {"__init__", "__eq__", "__repr__", "__str__", "__len__"}
+OPERATORS = {"__contains__", "__and__", "__or__", "__sub__"}
+CHANGES = set("append clear extend insert pop remove reverse setdefault update add discard".split())
+NEW_LISTS = {"list", "dict", "sorted", "set"}
 
 
 def files():
@@ -88,7 +91,9 @@ class LanguageTest(unittest.TestCase):
         for path, tree in trees():
             for node in functions_of(tree):
                 self.assertLessEqual(node.end_lineno - node.lineno + 1, 40, (path.name, node.name))
-                self.assertEqual(node.decorator_list, [], (path.name, node.name))
+                for decorator in node.decorator_list:
+                    self.assertEqual(ast.unparse(decorator), "property", (path.name, node.name))
+                    self.assertEqual(len(node.args.args), 1, (path.name, node.name))
                 self.assertTrue(ast.get_docstring(node) or node.name.startswith("__"), (path.name, node.name))
 
     def test_module_level(self):
@@ -129,13 +134,16 @@ class LanguageTest(unittest.TestCase):
         for item in node.body:
             self.assertTrue(isinstance(item, ast.FunctionDef) or isinstance(item, ast.Expr), where)
             if isinstance(item, ast.FunctionDef) and item.name.startswith("__"):
-                self.assertIn(item.name, METHODS_IN_CLASS, where)
+                self.assertIn(item.name, METHODS_IN_CLASS | OPERATORS, where)
 
     def test_imports(self):
         known = {path.stem: tree for path, tree in trees()}
         reached = {}
         for path, tree in trees():
             for node in imports_of(tree):
+                if node.module == "math":
+                    self.assertEqual([(alias.name, alias.asname) for alias in node.names], [("gcd", None)], path.name)
+                    continue
                 self.assertEqual((node.level, node.module.split(".")[0]), (0, "signlanes"), path.name)
                 target = node.module.split(".")[1]
                 reached.setdefault(path.stem, set()).add(target)
@@ -271,13 +279,72 @@ class LanguageTest(unittest.TestCase):
                     self.check_loop(ast.dump(over), loop.body, (path.name, loop.lineno))
 
     def check_loop(self, over, body, where):
-        changes = "append clear extend insert pop remove reverse setdefault update add discard".split()
         for statement in body:
             for node in ast.walk(statement):
-                if isinstance(node, ast.Call) and isinstance(node.func, ast.Attribute) and node.func.attr in changes:
+                if isinstance(node, ast.Call) and isinstance(node.func, ast.Attribute) and node.func.attr in CHANGES:
                     self.assertNotEqual(ast.dump(node.func.value), over, where)
                 if isinstance(node, ast.Subscript) and isinstance(node.ctx, (ast.Store, ast.Del)):
                     self.assertNotEqual(ast.dump(node.value).replace("Store()", "Load()"), over, where)
+
+    def test_operators_change_nothing(self):
+        known = {node.name: node for _, tree in trees() for node in functions_of(tree)}
+        inits = {node.name: item for _, tree in trees() for node in tree.body if isinstance(node, ast.ClassDef)
+                 for item in node.body if isinstance(item, ast.FunctionDef) and item.name == "__init__"}
+        waiting = [node for _, tree in trees() for node in functions_of(tree)
+                   if node.name in OPERATORS | {"__eq__"} or node.decorator_list]
+        self.assertGreater(len(waiting), 6)
+        seen = []
+        while waiting:
+            function = waiting.pop()
+            if function not in seen:
+                seen.append(function)
+                self.check_changes_nothing(function)
+                names = {called(node) for node in ast.walk(function)} - CHANGES
+                waiting += [known[name] for name in names if name in known]
+                waiting += [inits[name] for name in names if name in inits]
+        self.assertIn(known["plain_machine"], seen)
+        self.assertNotIn(known["put_loop"], seen)
+
+    def check_changes_nothing(self, function):
+        made, others = {}, {arg.arg for arg in function.args.args}
+        for node in ast.walk(function):
+            if isinstance(node, ast.Assign):
+                for target in node.targets:
+                    if isinstance(target, ast.Name):
+                        made.setdefault(target.id, []).append(node.value)
+                    elif isinstance(target, ast.Tuple):
+                        values = node.value.elts if isinstance(node.value, ast.Tuple) else [None] * len(target.elts)
+                        for item, value in zip(target.elts, values):
+                            made.setdefault(item.id, []).append(value)
+            if isinstance(node, (ast.For, ast.comprehension)):
+                others |= {name.id for name in ast.walk(node.target) if isinstance(name, ast.Name)}
+        own = {name for name, values in made.items() if name not in others and all(map(self.is_new, values))}
+        objects = {name for name, values in made.items()
+                   if name not in others and all(called(value) in ("WordSet", "Group") for value in values)}
+        if function.name == "__init__":
+            objects.add("self")
+        for node in ast.walk(function):
+            where = (function.name, getattr(node, "lineno", 0))
+            if isinstance(node, ast.Attribute) and isinstance(node.ctx, (ast.Store, ast.Del)):
+                self.assertIn(ast.unparse(node.value), objects, where)
+            if isinstance(node, ast.Subscript) and isinstance(node.ctx, (ast.Store, ast.Del)):
+                self.assertIn(self.root_of(node.value), own, where)
+            if called(node) in CHANGES and isinstance(node.func, ast.Attribute):
+                self.assertIn(self.root_of(node.func.value), own, where)
+            if isinstance(node, ast.AugAssign):
+                self.assertIsInstance(node.op, (ast.Add, ast.Sub, ast.FloorDiv), where)
+                self.assertIsInstance(node.target, ast.Name, where)
+
+    def root_of(self, held):
+        """The name of what an item, or an item of an item, is held in."""
+        while isinstance(held, ast.Subscript) or called(held) == "setdefault":
+            held = held.value if isinstance(held, ast.Subscript) else held.func.value
+        return ast.unparse(held)
+
+    def is_new(self, value):
+        """Whether an expression makes a list, dict or set of its own."""
+        return (isinstance(value, (ast.List, ast.ListComp, ast.Dict, ast.DictComp)) or called(value) in NEW_LISTS
+                or isinstance(value, ast.BinOp) and (self.is_new(value.left) or self.is_new(value.right)))
 
     def test_lambdas_and_nested_functions_are_not_used(self):
         for path, tree in trees():

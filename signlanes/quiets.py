@@ -1,0 +1,122 @@
+"""Machines that read rows of signs, and the plain words that these rows say.
+
+A machine is a tuple of the number of its nodes, of a list of lanes of one sign, as tuples of node, sign
+and node, and of a list of pairs of nodes of which the first one leads to the second one without a sign.
+Sets of nodes are numbers here, with a bit for each node. What stands here runs in operators, so nothing
+is changed but lists that a function has made itself.
+"""
+
+from signlanes.errors import TooMany
+
+
+def nodes_in(bits):
+    """The nodes of a set."""
+    found = []
+    while bits != 0:
+        low = bits & -bits
+        found.append(low.bit_length() - 1)
+        bits = bits - low
+    return found
+
+
+def lanes_by_source(size, lanes):
+    """For each node its lanes, as sign and node to which it leads."""
+    found = [[] for _ in range(size)]
+    for one, sign, other in lanes:
+        found[one].append((sign, other))
+    return found
+
+
+def lanes_back(lanes):
+    """The lanes the other way about, with the signs as they are."""
+    return [(other, sign, one) for one, sign, other in lanes]
+
+
+def pairs_around(comings, goings):
+    """The pairs of nodes of which a sign leads from the first one to a pair and is undone behind it."""
+    return [(one, other) for sign, one in comings for undoing, other in goings if undoing == sign ^ 1]
+
+
+def quiet_reach(machine):
+    """For each node the set of the nodes to which rows of signs that say the empty word lead."""
+    size, lanes, fresh = machine
+    goings = lanes_by_source(size, lanes)
+    comings = lanes_by_source(size, lanes_back(lanes))
+    reach = [1 << node for node in range(size)]
+    back = [1 << node for node in range(size)]
+    waiting = [(node, node) for node in range(size)]
+    at = -1
+    while at < len(waiting):
+        for one, other in fresh:
+            if reach[one] >> other & 1 == 0:
+                reach[one] = reach[one] | 1 << other
+                back[other] = back[other] | 1 << one
+                waiting.append((one, other))
+        at += 1
+        if at < len(waiting):
+            one, other = waiting[at]
+            longer = [(one, last) for last in nodes_in(reach[other] & ~reach[one])]
+            earlier = [(first, other) for first in nodes_in(back[one] & ~back[other])]
+            fresh = longer + earlier + pairs_around(comings[one], goings[other])
+    return reach
+
+
+def steps_of(signs, machine, reach):
+    """For each sign the nodes from which it leads, as sets of one, with the sets to which it leads."""
+    size, lanes, _ = machine
+    found = [[0] * size for _ in range(signs)]
+    for one, sign, other in lanes:
+        found[sign][one] = found[sign][one] | reach[other]
+    return [[(1 << node, bits) for node, bits in enumerate(row) if bits != 0] for row in found]
+
+
+def stepped(bits, steps):
+    """For each sign the set to which it leads from a set."""
+    found = []
+    for step in steps:
+        there = 0
+        for bit, targets in step:
+            if bits & bit != 0:
+                there = there | targets
+        found.append(there)
+    return found
+
+
+def plain_machine(steps, begin, ends, most):
+    """The machine that lets the plain words that lead from a set to one that has an end.
+
+    A state is a set and the last sign of the words that lead to it, unless its opposite leads nowhere
+    from the set: the opposite must not follow. More sets than `most`, unless it is None, are refused;
+    the empty one is not counted.
+    """
+    moves = {0: [0] * len(steps), begin: stepped(begin, steps)}
+    order = [(begin, None)]
+    numbers = {(begin, None): 0}
+    rows = []
+    while len(rows) < len(order):
+        bits, last = order[len(rows)]
+        row = []
+        for sign in range(len(steps)):
+            target = 0 if last is not None and sign == last ^ 1 else moves[bits][sign]
+            if target not in moves:
+                moves[target] = stepped(target, steps)
+            found = (target, sign if moves[target][sign ^ 1] != 0 else None)
+            if found not in numbers:
+                numbers[found] = len(order)
+                order.append(found)
+            row.append(numbers[found])
+        rows.append(row)
+        if most is not None and len(moves) - 1 > most:
+            raise TooMany(most + 1)
+    return (rows, [state[0] & ends != 0 for state in order])
+
+
+def bits_of(nodes):
+    """The set of some nodes, each named once."""
+    return sum([1 << node for node in nodes])
+
+
+def said_machine(signs, machine, begin, ends, most):
+    """What lets the plain words that are said by the rows of signs that lead from a node to an end."""
+    reach = quiet_reach(machine)
+    return plain_machine(steps_of(signs, machine, reach), reach[begin], bits_of(ends), most)

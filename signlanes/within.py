@@ -7,7 +7,7 @@ from signlanes.lines import line_between, lines_met
 from signlanes.pictures import folded_rows
 from signlanes.signs import glued, order_key, reduced, sign_numbers, undone
 from signlanes.turns import leader, split_root
-from signlanes.words import split_hair
+from signlanes.words import powered
 
 MOST_PAIRS = 6
 
@@ -33,14 +33,8 @@ def first_on_line(base, last, line):
     if line is None:
         return None
     first, step = line
-    found = [glued(power_of(base, times), last) for times in (first, first - step)]
+    found = [glued(powered(base, times), last) for times in (first, first - step)]
     return min(found, key=order_key)
-
-
-def power_of(base, times):
-    """A plain word, or for a number below 0 its opposite, taken so many times."""
-    hair, ring = split_hair(base if times >= 0 else undone(base))
-    return hair + ring * abs(times) + undone(hair)
 
 
 def leader_of_all(many, pairs):

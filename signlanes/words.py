@@ -50,14 +50,20 @@ def power(many, word, times):
     check_word(many, word)
     if not is_whole(times):
         raise InvalidNumber(times)
-    base = reduced(word) if times >= 0 else undone(reduced(word))
+    base = reduced(word)
     hair, ring = split_hair(base)
-    if base == "" or times == 0:
-        return ""
     # Told before the word is made: there may be far too many signs to write them.
     size = 2 * len(hair) + abs(times) * len(ring)
     if size > MOST_SIGNS:
         raise TooLong(size)
+    return powered(base, times)
+
+
+def powered(word, times):
+    """A plain word, or for a number below 0 its opposite, so many times."""
+    if word == "" or times == 0:
+        return ""
+    hair, ring = split_hair(word if times > 0 else undone(word))
     return hair + ring * abs(times) + undone(hair)
 
 

@@ -4,13 +4,18 @@ import copy
 import random
 import time
 
+from signlanes.bases import basis
 from signlanes.errors import FoldError, InvalidWord
 from signlanes.groups import Group, group_of
+from signlanes.pictures import picture_rows
+from signlanes.wordsets import words_of
 
 SIGNS = "aAbBcCdDeEfF"
 GROUP = Group(2, ["aa", "b"])
+SET = words_of(2, ["a", "bb"])
 
-ODD = [None, True, False, (), {}, {"a": 1}, [[1], None], ("a", 1), [[[["a"]]]], GROUP, InvalidWord("a"), FoldError()]
+ODD = [None, True, False, (), {}, {"a": 1}, [[1], None], ("a", 1), [[[["a"]]]], GROUP, SET, InvalidWord("a"),
+       FoldError()]
 WRONG_MANY = ODD + [0, 7, -1, 10 ** 29, "2", "", "a", [], [2], (2,), ["a"]]
 WRONG_COUNT = ODD + [-1, -10 ** 29, "1", "", [], [1], (1,)]
 WRONG_WHOLE = ODD + ["1", "", [], [1], (1,)]
@@ -19,6 +24,8 @@ WRONG_WORDS = ODD + [0, 3, "", "ab", ("a",), ("a", "b"), [None], ["a", True], ["
                      ["a", 1], ["a" * 1001], [GROUP], ["a", "b c"]]
 WRONG_LIST = WRONG_WORDS + [["a"] * 13, ["a", "b" * 201], [""] * 13]
 WRONG_GROUP = [value for value in ODD if value is not GROUP] + [0, 1, "a", [], ["aa"], [[0, 0]], (2, ["a"])]
+WRONG_SET = [value for value in ODD if value is not SET] + [0, 1, "a", [], ["aa"], [[1, 1]], (2, ["a"])]
+UNLIKE_GROUPS = [Group(1, ["a"]), Group(3, []), Group(6, list("abcdef"))]
 
 
 def told(call, *args, **named):
@@ -258,6 +265,14 @@ def pasted(words, word):
     """What a word for letters says if each of them is replaced by a word, its opposite by the opposite."""
     parts = [words[SIGNS.index(sign) // 2] if sign.islower() else back(words[SIGNS.index(sign) // 2]) for sign in word]
     return say("".join(parts))
+
+
+def part_of_finite_index(chance, other, index):
+    """A group inside another one that has at least one letter of rank, with so many classes in it."""
+    rank, words = other.rank(), basis(other)
+    group = group_of(rank, full_picture(chance, rank, index))
+    rows = picture_rows(other.many(), [pasted(words, word) for word in basis(group)])
+    return group_of(other.many(), rows)
 
 
 def chance_of(seed):

@@ -9,8 +9,8 @@ from signlanes.errors import InvalidGroup, TooMany, Unlike
 from signlanes.groupcounts import group_numbered, how_many_groups
 from signlanes.groups import Group, belongs, group_of, is_picture
 from signlanes.meets import first_of_double, inside
-from tests.helpers import (SIGNS, WRONG_GROUP, back, chance_of, check_error, check_quick, check_wrong, full_picture,
-                           plain_words, random_group, random_list, slow_fold, slow_rows, told)
+from tests.helpers import (SIGNS, UNLIKE_GROUPS, WRONG_GROUP, back, chance_of, check_error, check_quick, check_wrong,
+                           full_picture, plain_words, random_group, random_list, slow_fold, slow_rows, told)
 
 
 def partings(size):
@@ -172,7 +172,7 @@ class DoubleClassTest(unittest.TestCase):
         endless = [Group(2, ["ab"]), Group(2, []), Group(1, []), Group(6, ["a"])]
         check_wrong(self, double_classes, [half, Group(2, ["ab"])],
                     [(0, InvalidGroup, WRONG_GROUP + endless), (1, InvalidGroup, WRONG_GROUP),
-                     (1, Unlike, [Group(1, ["a"]), Group(3, []), Group(6, list("abcdef"))])])
+                     (1, Unlike, UNLIKE_GROUPS)])
         check_error(self, double_classes, [endless[0], Group(1, ["a"])], InvalidGroup, endless[0])
         self.assertEqual(len(double_classes(half, Group(2, random_list(chance_of(105), 2, 2, 3)))[0]), 2)
 

@@ -8,10 +8,9 @@ from signlanes.errors import InvalidGroup, InvalidList, InvalidNumber, InvalidWo
 from signlanes.groups import Group, belongs, group_of
 from signlanes.meets import first_of_double, led, meet
 from signlanes.members import members_from
-from tests.helpers import (WRONG_COUNT, WRONG_GROUP, WRONG_WORD, back, chance_of, check_error, check_quick, check_wrong,
-                           full_picture, plain_words, random_group, random_plain, random_word, say)
-
-UNLIKE = [Group(1, ["a"]), Group(3, []), Group(6, list("abcdef"))]
+from tests.helpers import (UNLIKE_GROUPS, WRONG_COUNT, WRONG_GROUP, WRONG_WORD, back, chance_of, check_error,
+                           check_quick, check_wrong, full_picture, plain_words, random_group, random_plain, random_word,
+                           say)
 
 
 class ExampleTest(unittest.TestCase):
@@ -150,7 +149,7 @@ class MeetWordTest(unittest.TestCase):
         one = Group(2, ["ab"])
         check_wrong(self, meet_word, [one, "a", Group(2, ["aa"]), "b"],
                     [(0, InvalidGroup, WRONG_GROUP), (1, InvalidWord, WRONG_WORD), (2, InvalidGroup, WRONG_GROUP),
-                     (2, Unlike, UNLIKE), (3, InvalidWord, WRONG_WORD)])
+                     (2, Unlike, UNLIKE_GROUPS), (3, InvalidWord, WRONG_WORD)])
         pair = (one, "a")
         wrong = [None, True, 3, "", "a", (), {}, one, pair, [], [pair] * 7, (pair,), [pair, None], [list(pair)],
                  [(one,)], [(one, "a", "a")], [("a", one)], [(one, None)], [(one, "c")], [(one, 1)], [pair, (one, ["a"])],
@@ -197,7 +196,7 @@ class InDoubleTest(unittest.TestCase):
         one = Group(2, ["ab"])
         check_wrong(self, in_double, [one, "a", Group(2, ["aa"]), "b"],
                     [(0, InvalidGroup, WRONG_GROUP), (1, InvalidWord, WRONG_WORD), (2, InvalidGroup, WRONG_GROUP),
-                     (2, Unlike, UNLIKE), (3, InvalidWord, WRONG_WORD)])
+                     (2, Unlike, UNLIKE_GROUPS), (3, InvalidWord, WRONG_WORD)])
 
 
 if __name__ == "__main__":

@@ -12,12 +12,9 @@ from signlanes.meets import (first_of_double, first_outside, index_in, inner_wor
                              led_meets, meet, through)
 from signlanes.members import members_from
 from signlanes.pictures import picture_rows
-from tests.helpers import (WRONG_GROUP, WRONG_WORD, back, chance_of, check_error, check_owned, check_quick, check_wrong,
-                           full_picture, pasted, place, plain_words, random_group, random_plain, random_word, say,
-                           slow_member, told)
-
-UNLIKE = [Group(1, ["a"]), Group(3, []), Group(6, list("abcdef"))]
-
+from tests.helpers import (UNLIKE_GROUPS, WRONG_GROUP, WRONG_WORD, back, chance_of, check_error, check_owned, check_quick,
+                           check_wrong, full_picture, part_of_finite_index, pasted, place, plain_words, random_group,
+                           random_plain, random_word, say, slow_member, told)
 
 def inner_group(chance, other, size):
     """A group inside another one, made of products of its basis words."""
@@ -29,14 +26,6 @@ def inner_group(chance, other, size):
         parts = [chance.choice([word, back(word)]) for word in (chance.choice(words) for _ in range(3))]
         made.append(say("".join(parts[:chance.randint(1, 3)])))
     return Group(other.many(), made)
-
-
-def part_of_finite_index(chance, other, index):
-    """A group inside another one that has at least one letter of rank, with so many classes in it."""
-    rank, words = other.rank(), basis(other)
-    group = group_of(rank, full_picture(chance, rank, index))
-    rows = picture_rows(other.many(), [pasted(words, word) for word in basis(group)])
-    return group_of(other.many(), rows)
 
 
 def some_members(group):
@@ -142,7 +131,7 @@ class MeetTest(unittest.TestCase):
         self.assertEqual(first_outside(Group(2, ["a" * 9]), Group(2, [])), "a" * 9)
 
     def test_wrong(self):
-        kinds = [(0, InvalidGroup, WRONG_GROUP), (1, InvalidGroup, WRONG_GROUP), (1, Unlike, UNLIKE)]
+        kinds = [(0, InvalidGroup, WRONG_GROUP), (1, InvalidGroup, WRONG_GROUP), (1, Unlike, UNLIKE_GROUPS)]
         for call in (meet, joined, inside, first_outside, index_in, leaders_in, inner_words, led_meets, through):
             check_wrong(self, call, [Group(2, ["aa"]), Group(2, ["a"])], kinds)
 
@@ -318,7 +307,7 @@ class DoubleTest(unittest.TestCase):
     def test_wrong(self):
         check_wrong(self, first_of_double, [Group(2, ["aa"]), "a", Group(2, ["ab"])],
                     [(0, InvalidGroup, WRONG_GROUP), (1, InvalidWord, WRONG_WORD), (2, InvalidGroup, WRONG_GROUP),
-                     (2, Unlike, UNLIKE)])
+                     (2, Unlike, UNLIKE_GROUPS)])
 
 
 class LedMeetsTest(unittest.TestCase):

@@ -21,7 +21,6 @@ class Completions:
     """
 
     def __init__(self, many, size):
-        self.many = many
         self.size = size
         self.orders = factorials(size)
         # How many ways there are for the spots that are not joined, less the choices of their numbers.

@@ -7,6 +7,10 @@ is changed but lists that a function has made itself.
 """
 
 from signlanes.errors import TooMany
+from signlanes.machines import MOST_STATES
+
+MOST_FUTURES = 150
+FIRST_LOOK = 2000
 
 
 def nodes_in(bits):
@@ -62,12 +66,12 @@ def quiet_reach(machine):
 
 
 def steps_of(signs, machine, reach):
-    """For each sign the nodes from which it leads, as sets of one, with the sets to which it leads."""
+    """For each sign the nodes from which it leads, with the sets to which it leads."""
     size, lanes, _ = machine
     found = [[0] * size for _ in range(signs)]
     for one, sign, other in lanes:
         found[sign][one] = found[sign][one] | reach[other]
-    return [[(1 << node, bits) for node, bits in enumerate(row) if bits != 0] for row in found]
+    return [[(node, bits) for node, bits in enumerate(row) if bits != 0] for row in found]
 
 
 def stepped(bits, steps):
@@ -75,29 +79,63 @@ def stepped(bits, steps):
     found = []
     for step in steps:
         there = 0
-        for bit, targets in step:
-            if bits & bit != 0:
+        for node, targets in step:
+            if bits >> node & 1 == 1:
                 there = there | targets
         found.append(there)
     return found
+
+
+def futures_of(steps, ends):
+    """Sets of nodes from which plain words, the first ones, lead to an end, with the first signs of these."""
+    found = [(ends, None)]
+    known = {(ends, None): True}
+    at = 0
+    while at < len(found) and len(found) < MOST_FUTURES:
+        bits, first = found[at]
+        for sign in range(len(steps)):
+            ahead = bits_of([node for node, targets in steps[sign] if targets & bits != 0])
+            if ahead != 0 and sign != last_undone(first) and (ahead, sign) not in known:
+                known[(ahead, sign)] = True
+                found.append((ahead, sign))
+        at += 1
+    return found
+
+
+def last_undone(sign):
+    """The sign that must not follow a sign in a plain word, None for none."""
+    return None if sign is None else sign ^ 1
+
+
+def look_of(bits, last, futures):
+    """Which words, of which futures tell, lead to an end from a set behind a sign."""
+    return tuple([bits & future != 0 and (first is None or first != last_undone(last)) for future, first in futures])
+
+
+def are_surely_many(states, futures):
+    """Whether words that lead to an end tell apart more states than a least machine may have."""
+    looks = [look_of(bits, last, futures) for bits, last in states]
+    return len(set(looks)) > MOST_STATES
 
 
 def plain_machine(steps, begin, ends, most):
     """The machine that lets the plain words that lead from a set to one that has an end.
 
     A state is a set and the last sign of the words that lead to it, unless its opposite leads nowhere
-    from the set: the opposite must not follow. More sets than `most`, unless it is None, are refused;
-    the empty one is not counted.
+    from the set: the opposite must not follow. More sets than `most` are refused; the empty one is
+    not counted. If `most` is None there may be any number of them, and far more than there are
+    states at last: so where there are many, what is sure to end with too many states is refused.
     """
     moves = {0: [0] * len(steps), begin: stepped(begin, steps)}
     order = [(begin, None)]
     numbers = {(begin, None): 0}
     rows = []
+    looked_at = FIRST_LOOK
     while len(rows) < len(order):
         bits, last = order[len(rows)]
         row = []
         for sign in range(len(steps)):
-            target = 0 if last is not None and sign == last ^ 1 else moves[bits][sign]
+            target = 0 if sign == last_undone(last) else moves[bits][sign]
             if target not in moves:
                 moves[target] = stepped(target, steps)
             found = (target, sign if moves[target][sign ^ 1] != 0 else None)
@@ -108,6 +146,10 @@ def plain_machine(steps, begin, ends, most):
         rows.append(row)
         if most is not None and len(moves) - 1 > most:
             raise TooMany(most + 1)
+        if most is None and len(order) > looked_at:
+            looked_at = 2 * looked_at
+            if are_surely_many(order, futures_of(steps, ends)):
+                raise TooMany(MOST_STATES + 1)
     return (rows, [state[0] & ends != 0 for state in order])
 
 

@@ -81,7 +81,8 @@ def is_group(words):
     check_set(words)
     rows = made_rows(words)
     machine = (len(rows), picture_lanes(rows, 0), [])
-    group_machine, lets = said_machine(2 * words.letter_count, machine, 0, [0], None)
+    # Each word leads to one spot alone, so there are no more sets than spots.
+    group_machine, lets = said_machine(2 * words.letter_count, machine, 0, [0], len(rows))
     # A group whose least machine has too many states is not that of a set.
     return least_or_none(group_machine, lets) == (words.least_rows, words.least_ends)
 

@@ -1,6 +1,7 @@
 """Tests of promise 43."""
 
 import unittest
+from unittest import mock
 
 from signlanes.bases import basis
 from signlanes.classmeets import in_double
@@ -149,6 +150,33 @@ class ProductTest(unittest.TestCase):
                                  lambda: images(3, ["abca", "bB", "cccc", "A", "ab", ""][:many], words)):
                         error = told(check_quick, self, 8, call)
                         self.assertTrue(error is None or error.value == 601)
+
+    def test_too_many_states_are_told_early_and_rightly(self):
+        chance = chance_of(203)
+        for _ in range(150):
+            many, into = chance.randint(1, 3), chance.randint(1, 3)
+            (one, _, _), (other, _, _) = small_set(chance, many), small_set(chance, many)
+            pasting = [random_word(chance, into, chance.randint(0, 4)) for _ in range(many)]
+            for call in (lambda: products(one, other), lambda: opposites(one), lambda: all_products(one),
+                         lambda: images(into, pasting, one)):
+                size = len(call().rows())
+                for most in (size, size - 1):
+                    # With a lesser bound, and looking at once, it has to be told just beyond the bound.
+                    with mock.patch("signlanes.quiets.FIRST_LOOK", 0), \
+                            mock.patch("signlanes.quiets.MOST_STATES", most), \
+                            mock.patch("signlanes.machines.MOST_STATES", most):
+                        error = told(call)
+                    self.assertEqual(error is None, most == size)
+
+    def test_far_too_many_states(self):
+        chance = chance_of(204)
+        for _ in range(40):
+            lanes = [(state, letter, chance.randrange(11)) for state in range(11) for letter in "abcdef"]
+            words = WordSet(6, 11, lanes, [0, 5])
+            pasting = ["".join(chance.choice("ab") for _ in range(chance.randint(1, 4))) for _ in range(6)]
+            for call in (lambda: images(2, pasting, words), lambda: products(words, words)):
+                error = told(check_quick, self, 5, call)
+                self.assertTrue(error is None or error.value == 601)
 
     def test_wrong(self):
         one, other = words_of(2, ["ab"]), all_words(2)

@@ -1,7 +1,7 @@
 """Words that are in several classes, and in double classes."""
 
 from signlanes.branches import read_on
-from signlanes.checks import check_count, check_word, is_spelled, MOST_SIGNS
+from signlanes.checks import MOST_SIGNS, check_count, check_word, is_spelled
 from signlanes.doubles import are_in_one_double
 from signlanes.errors import InvalidList
 from signlanes.groups import Group, check_group, check_group_word, check_like

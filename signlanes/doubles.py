@@ -25,7 +25,7 @@ class DoubleSearch:
         # None, or a spot of the other one and the sign that led there.
         self.entries = [(None, None, [(0, None)])]
 
-    def targets(self, place, sign):
+    def led_places(self, place, sign):
         """The places to which a sign leads from one."""
         spot, last = place
         if last is not None:
@@ -44,7 +44,7 @@ class DoubleSearch:
         """The places to which a sign leads from some and to which no word ahead has led."""
         found = []
         for place in places:
-            for target in self.targets(place, sign):
+            for target in self.led_places(place, sign):
                 if target not in seen:
                     seen[target] = True
                     found.append(target)

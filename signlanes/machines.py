@@ -41,6 +41,14 @@ def states_that(lets, wanted):
     return [state for state, let in enumerate(lets) if let == wanted]
 
 
+def lets_of(rows, ends):
+    """For each state whether words are let that end there."""
+    found = [False] * len(rows)
+    for end in ends:
+        found[end] = True
+    return found
+
+
 def kinds_of_states(rows, lets, most):
     """Numbers for the states, equal for those from which the same words are let; None if more are needed.
 
@@ -57,8 +65,10 @@ def kinds_of_states(rows, lets, most):
     while waiting and len(parts) - spare <= most:
         at = waiting.pop()
         waits[at] = False
-        for states in states_into(parts[at], sources, len(rows[0])):
-            for kind, moved in by_kind(states, kinds):
+        entering = states_into(parts[at], sources, len(rows[0]))
+        for states in entering:
+            touched = by_kind(states, kinds)
+            for kind, moved in touched:
                 if len(moved) < len(parts[kind]):
                     for state in moved:
                         kinds[state] = len(parts)

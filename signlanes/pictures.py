@@ -142,7 +142,8 @@ def woven_rows(size, spots, lanes, pairs):
     weave = Weave(size)
     first = weave.put_table([[None] * size for _ in range(spots)])
     for one, sign, other in lanes:
-        for left, right in weave.link(weave.living(first + one), sign, weave.living(first + other)):
+        found = weave.link(weave.living(first + one), sign, weave.living(first + other))
+        for left, right in found:
             weave.unite(left, right)
     for one, other in pairs:
         weave.unite(first + one, first + other)

@@ -2,7 +2,7 @@
 
 from signlanes.checks import MOST_SIGNS, check_many, check_word, is_count, is_spelled, is_whole, is_word_list
 from signlanes.errors import InvalidList, InvalidMachine, InvalidNumber, Unlike
-from signlanes.machines import least_machine, lets_finitely_many, live_states, paired_rows
+from signlanes.machines import least_machine, lets_finitely_many, lets_of, live_states, paired_rows
 from signlanes.pictures import copied_rows
 from signlanes.quiets import quiet_reach, said_machine
 from signlanes.signs import reduced, sign_numbers, written
@@ -130,7 +130,8 @@ def lets_of_both(one, other):
     if one.letter_count != other.letter_count:
         raise Unlike(other)
     rows, pairs = paired_rows(one.least_rows, other.least_rows)
-    return (rows, [(left in one.least_ends, right in other.least_ends) for left, right in pairs])
+    lets, other_lets = lets_of(one.least_rows, one.least_ends), lets_of(other.least_rows, other.least_ends)
+    return (rows, [(lets[left], other_lets[right]) for left, right in pairs])
 
 
 def set_of(many, rows, lets):
@@ -211,7 +212,7 @@ def first_unlike_word(one, other):
     """The first word that just one of two sets has, None if they are equal."""
     check_two_sets(one, other)
     size, rows = len(one.least_rows), one.least_rows + shifted_rows(other.least_rows, len(one.least_rows))
-    lets = [state in one.least_ends or state - size in other.least_ends for state in range(len(rows))]
+    lets = lets_of(rows, one.least_ends + [end + size for end in other.least_ends])
     # Each entry is a word: the states to which it leads, the entry of what is ahead of its last sign, and this.
     entries, linked, at = [(0, size, None, None)], list(range(len(rows))), 0
     while at < len(entries):
@@ -253,11 +254,12 @@ def within(one, other):
     """Whether all words of a set are in another one."""
     check_two_sets(one, other)
     size, live = len(other.least_rows), live_states(one.least_rows, one.least_ends)
+    lets, other_lets = lets_of(one.least_rows, one.least_ends), lets_of(other.least_rows, other.least_ends)
     # A pair of states is one number here; what is left from it can be in the set only if the first one lives.
     seen, waiting = [False] * (len(one.least_rows) * size), [0] if live[0] else []
     while waiting:
         left, right = divmod(waiting.pop(), size)
-        if left in one.least_ends and right not in other.least_ends:
+        if lets[left] and not other_lets[right]:
             return False
         for target, other_target in zip(one.least_rows[left], other.least_rows[right]):
             pair = target * size + other_target

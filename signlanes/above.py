@@ -3,9 +3,9 @@
 from signlanes.errors import InvalidGroup, TooMany
 from signlanes.groupcounts import is_full
 from signlanes.groups import check_group, check_like, group_with
-from signlanes.joints import joint_table
+from signlanes.links import link, link_end
 from signlanes.pictures import united_rows
-from signlanes.trees import first_words
+from signlanes.trees import finding_lanes, first_words, free_lanes
 
 MOST_FRINGE_SPOTS = 8
 
@@ -50,12 +50,22 @@ def double_classes(one, other):
         raise InvalidGroup(one)
     check_group(other)
     check_like(one, other)
-    found, seen = [], [False] * len(one.lane_rows)
-    for first, word in enumerate(first_words(one.lane_rows)):
-        if not seen[first]:
-            order, _ = joint_table([one.lane_rows, other.lane_rows], (first, 0))
-            ends = [spot for spot, there in order if there == 0]
-            for end in ends:
-                seen[end] = True
-            found.append((word, len(ends)))
-    return found
+    linked = linked_spots(one.lane_rows, other.lane_rows)
+    ends = [link_end(linked, spot) for spot in range(len(linked))]
+    return [(word, ends.count(spot)) for spot, word in enumerate(first_words(one.lane_rows)) if ends[spot] == spot]
+
+
+def linked_spots(rows, other):
+    """The spots of a picture with all lanes, linked where a word of a group with another picture leads on.
+
+    Pairs of a spot of each picture are joined by lanes of the same sign in both. Each such pair is known
+    by the spot that is in one with the start of the other picture, if only finding lanes are followed.
+    """
+    known = [list(range(len(rows)))]
+    for found_from, sign in finding_lanes(other)[1:]:
+        known.append([known[found_from][lanes[sign ^ 1]] for lanes in rows])
+    linked = list(range(len(rows)))
+    for spot, sign, target in free_lanes(other):
+        for place, row in enumerate(rows):
+            link(linked, known[spot][place], known[target][row[sign]])
+    return linked

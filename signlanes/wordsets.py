@@ -2,6 +2,7 @@
 
 from signlanes.checks import MOST_SIGNS, check_many, check_word, is_count, is_spelled, is_whole, is_word_list
 from signlanes.errors import InvalidList, InvalidMachine, InvalidNumber, Unlike
+from signlanes.links import link, link_end
 from signlanes.machines import least_machine, lets_finitely_many, lets_of, live_states, paired_rows
 from signlanes.pictures import copied_rows
 from signlanes.quiets import quiet_reach, said_machine
@@ -219,10 +220,9 @@ def first_unlike_word(one, other):
         left, right, _, _ = entries[at]
         if lets[left] != lets[right]:
             return word_of_entry(entries, at)
-        left_end, right_end = link_end(linked, left), link_end(linked, right)
-        # Of states that are linked by pairs ahead, those ahead tell earlier whether any word parts them.
-        if left_end != right_end:
-            linked[left_end] = right_end
+        # Where states are linked by pairs ahead, what parts them parts one of those pairs by an earlier word.
+        if link_end(linked, left) != link_end(linked, right):
+            link(linked, left, right)
             entries.extend([(rows[left][sign], rows[right][sign], at, sign) for sign in range(len(rows[0]))])
         at += 1
     return None
@@ -231,14 +231,6 @@ def first_unlike_word(one, other):
 def shifted_rows(rows, by):
     """Rows in which all states have greater numbers."""
     return [[target + by for target in row] for row in rows]
-
-
-def link_end(linked, state):
-    """The last one of the states to which links lead from one."""
-    while linked[state] != state:
-        linked[state] = linked[linked[state]]
-        state = linked[state]
-    return state
 
 
 def word_of_entry(entries, at):

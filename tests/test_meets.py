@@ -85,7 +85,7 @@ class MeetTest(unittest.TestCase):
         self.assertEqual(meet(Group(2, ["a" * 77]), Group(2, ["b" * 76])), Group(2, []))
 
     def test_spots_of_joined(self):
-        for size, other in ((200, 101), (150, 151), (200, 100), (200, 200)):
+        for size, other in ((200, 101), (150, 151), (200, 100), (200, 102), (200, 200)):
             one, two = Group(2, ["a" * size]), Group(2, ["b" * other])
             if size + other - 1 > 300:
                 error = told(joined, one, two)

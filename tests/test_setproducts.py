@@ -168,6 +168,38 @@ class ProductTest(unittest.TestCase):
                         error = told(call)
                     self.assertEqual(error is None, most == size)
 
+    def test_six_hundred_states(self):
+        # Sets of the words whose sign with a number from the end is an `a`.
+        loops = [(0, "a", 0), (0, "b", 0)]
+        for size in (7, 9, 10):
+            chain = [(at, sign, at + 1) for at in range(1, size) for sign in "ab"]
+            behind = WordSet(2, size + 1, [(0, "a", 1)] + chain, [size])
+            marked = WordSet(3, size + 1, loops + [(0, "c", 1)] + chain, [size])
+            self.assertLessEqual(max(len(words.rows()) for words in (behind, marked)), 12)
+            for call in (lambda: products(WordSet(2, 1, loops, [0]), behind),
+                         lambda: images(2, ["a", "b", "a"], marked)):
+                if size < 10:
+                    self.assertEqual(len(call().rows()), 2 ** size + 1)
+                else:
+                    error = told(call)
+                    self.assertEqual((type(error), error.value), (TooMany, 601))
+
+    def test_states_of_great_results(self):
+        chance, told_some = chance_of(205), 0
+        for _ in range(30):
+            full, other = group_of(2, full_picture(chance, 2, 12)), Group(2, [random_plain(chance, 2, 6)] * 2)
+            word = random_plain(chance, 2, chance.randint(1, 9))
+            for call in (lambda: led_into(full, word), lambda: double_class(other, word, full),
+                         lambda: group_words(full), lambda: led_into(full, "a" * 12)):
+                with mock.patch("signlanes.quiets.MOST_STATES", 10 ** 6), \
+                        mock.patch("signlanes.machines.MOST_STATES", 10 ** 6):
+                    size = len(check_quick(self, 8, call).rows())
+                error = told(check_quick, self, 8, call)
+                self.assertEqual(None if error is None else (type(error), error.value),
+                                 None if size <= 600 else (TooMany, 601))
+                told_some += size > 600
+        self.assertGreater(told_some, 3)
+
     def test_far_too_many_states(self):
         chance = chance_of(204)
         for _ in range(40):

@@ -191,6 +191,17 @@ class WordSetTest(unittest.TestCase):
                 for call in (lambda: words_of(6, words), lambda: one | other):
                     error = told(call)
                     self.assertEqual((type(error), error.value), (TooMany, 601))
+        for one, other, states in ((23, 26, 599), (24, 25, 601), (25, 26, 651)):
+            sets = [WordSet(1, 1, [(0, "a" * size, 0)], [0]) for size in (one, other)]
+            if states <= 600:
+                self.assertEqual(len((sets[0] & sets[1]).rows()), states)
+            else:
+                error = told(lambda: sets[0] & sets[1])
+                self.assertEqual((type(error), error.value), (TooMany, 601))
+        great = words_of(6, long + ["f" * 8])
+        for call in (lambda: other_words(great), lambda: all_words(6) - great):
+            error = told(check_quick, self, 5, call)
+            self.assertEqual((type(error), error.value), (TooMany, 601))
         chance = chance_of(182)
         error = told(check_quick, self, 5, words_of, 6, [random_plain(chance, 6, 60) for _ in range(40)])
         self.assertEqual((type(error), error.value), (TooMany, 601))

@@ -18,7 +18,11 @@ def lessened(now, before, factor, gap, modulus):
 
 
 def rule_modulo(values, modulus):
-    """The steps of the least rule modulo a number, None where one cannot be divided there."""
+    """The steps of the least rule modulo a number, None where one cannot be divided there.
+
+    `now` has 1 and, taken off, the steps of the least rule for the numbers looked at so far; `before` those
+    of the last rule that had fewer items, which is shifted so far that what it missed undoes a miss.
+    """
     now, before, items, gap, inverse = [1], [1], 0, 1, 1
     for at in range(len(values)):
         miss = sum([item * values[at - back] for back, item in enumerate(now)]) % modulus
@@ -33,8 +37,7 @@ def rule_modulo(values, modulus):
         else:
             gap += 1
         now = changed
-    padded = now[1:] + [0] * (items + 1 - len(now))
-    return [-item % modulus for item in padded]
+    return [-item % modulus for item in now[1:]]
 
 
 def goes_by(values, steps):

@@ -173,7 +173,6 @@ def all_words(many):
 
 def no_words(many):
     """The set without words."""
-    check_many(many)
     return WordSet(many, 1, [], [])
 
 

@@ -19,6 +19,12 @@ from tests.machines import check_least, lanes_said, random_lanes, words_in
 
 UNLIKE_SETS = [words_of(1, ["a"]), no_words(3), all_words(6)]
 
+# Where each letter leads from each of 11 states. If the letters become words of two letters, the words
+# lead to hundreds of thousands of sets of places.
+MANY_SETS = [[1, 2, 1, 3, 0, 0], [3, 4, 5, 6, 4, 6], [7, 8, 9, 2, 7, 2], [2, 8, 9, 2, 9, 3],
+             [0, 2, 6, 9, 6, 1], [9, 9, 7, 9, 1, 5], [0, 1, 3, 0, 8, 8], [8, 3, 3, 6, 2, 7],
+             [7, 5, 6, 4, 6, 10], [10, 5, 0, 6, 6, 3], [10, 8, 10, 2, 9, 9]]
+
 
 def small_set(chance, many):
     """A set whose least machine has at most 12 states, with lanes that lead to words of it."""
@@ -201,6 +207,11 @@ class ProductTest(unittest.TestCase):
         self.assertGreater(told_some, 3)
 
     def test_far_too_many_states(self):
+        lanes = [(state, letter, end) for state, row in enumerate(MANY_SETS) for letter, end in zip("abcdef", row)]
+        words = WordSet(6, 11, lanes, [2, 8, 10])
+        self.assertEqual(len(words.rows()), 12)
+        error = told(check_quick, self, 4, images, 2, ["aabb", "aaba", "b", "bbaa", "aaab", "abba"], words)
+        self.assertEqual((type(error), error.value), (TooMany, 601))
         chance = chance_of(204)
         for _ in range(40):
             lanes = [(state, letter, chance.randrange(11)) for state in range(11) for letter in "abcdef"]

@@ -68,10 +68,12 @@ def quiet_reach(machine):
 def steps_of(signs, machine, reach):
     """For each sign the nodes from which it leads, with the sets to which it leads."""
     size, lanes, _ = machine
-    found = [[0] * size for _ in range(signs)]
+    # One list for all signs, since what runs in an operator may change items of a list of its own alone.
+    found = [0 for _ in range(signs * size)]
     for one, sign, other in lanes:
-        found[sign][one] = found[sign][one] | reach[other]
-    return [[(node, bits) for node, bits in enumerate(row) if bits != 0] for row in found]
+        found[sign * size + one] = found[sign * size + one] | reach[other]
+    rows = [found[at * size:(at + 1) * size] for at in range(signs)]
+    return [[(node, bits) for node, bits in enumerate(row) if bits != 0] for row in rows]
 
 
 def stepped(bits, steps):

@@ -328,12 +328,23 @@ class LanguageTest(unittest.TestCase):
             if isinstance(node, ast.Attribute) and isinstance(node.ctx, (ast.Store, ast.Del)):
                 self.assertIn(ast.unparse(node.value), objects, where)
             if isinstance(node, ast.Subscript) and isinstance(node.ctx, (ast.Store, ast.Del)):
-                self.assertIn(self.root_of(node.value), own, where)
+                self.check_held(node.value, own, made, where)
             if called(node) in CHANGES and isinstance(node.func, ast.Attribute):
-                self.assertIn(self.root_of(node.func.value), own, where)
+                self.check_held(node.func.value, own, made, where)
             if isinstance(node, ast.AugAssign):
                 self.assertIsInstance(node.op, (ast.Add, ast.Sub, ast.FloorDiv), where)
                 self.assertIsInstance(node.target, ast.Name, where)
+
+    def check_held(self, held, own, made, where):
+        """What is changed is a list of its own, or an item of a list all items of which are written as new lists."""
+        root = self.root_of(held)
+        self.assertIn(root, own, where)
+        if isinstance(held, ast.Subscript):
+            for value in made[root]:
+                self.assertIsInstance(value, (ast.List, ast.ListComp, ast.Dict), where)
+                items = [value.elt] if isinstance(value, ast.ListComp) else getattr(value, "elts", [])
+                for item in items:
+                    self.assertTrue(isinstance(item, (ast.List, ast.ListComp)) or called(item) == "list", where)
 
     def root_of(self, held):
         """The name of what an item, or an item of an item, is held in."""

@@ -11,7 +11,7 @@ MOST_SPOTS = 300
 
 
 class Weave:
-    """A table of lanes in which loops at spot 0 are put, and which is folded behind each of them."""
+    """A table of lanes in which ways of words are put, and which is folded behind each of them."""
 
     def __init__(self, size):
         self.size = size
@@ -45,9 +45,13 @@ class Weave:
         return first
 
     def put_loop(self, numbers):
-        """Put in a loop for a plain word; only what cannot be read yet needs new spots."""
-        head, low = self.read_on(numbers)
-        tail, high = self.read_back(numbers, low)
+        """Put in a loop at spot 0 for a plain word."""
+        self.put_path(0, 0, numbers)
+
+    def put_path(self, one, other, numbers):
+        """Put in a way of a plain word between two spots; only what cannot be read yet needs new spots."""
+        head, low = self.read_on(one, numbers)
+        tail, high = self.read_back(other, numbers, low)
         while head == tail and high - low > 1 and numbers[low] == numbers[high - 1] ^ 1:
             # Both ends of what is left would leave this spot by the same sign.
             spot = self.new_spot()
@@ -62,16 +66,16 @@ class Weave:
             head = spot
         self.lay(head, numbers[high - 1], tail)
 
-    def read_on(self, numbers):
-        """The spot to which the first signs lead, as far as there are lanes, and how many they are."""
-        spot, at = 0, 0
+    def read_on(self, spot, numbers):
+        """The spot to which the first signs lead from one, as far as there are lanes, and how many they are."""
+        at = 0
         while at < len(numbers) and self.lanes[spot][numbers[at]] is not None:
             spot, at = self.lanes[spot][numbers[at]], at + 1
         return (spot, at)
 
-    def read_back(self, numbers, low):
-        """The spot from which the last signs lead to spot 0, and where they begin, not below a place."""
-        spot, at = 0, len(numbers)
+    def read_back(self, spot, numbers, low):
+        """The spot from which the last signs lead to one, and where they begin, not below a place."""
+        at = len(numbers)
         while at > low and self.lanes[spot][numbers[at - 1] ^ 1] is not None:
             spot, at = self.lanes[spot][numbers[at - 1] ^ 1], at - 1
         return (spot, at)

@@ -8,7 +8,8 @@ def pruned_rows(rows, start):
 
     The start keeps its lane; None stands for no start.
     """
-    left, waiting = copied_rows(rows), list(range(len(rows)))
+    left = copied_rows(rows)
+    waiting = [at for at, row in enumerate(rows) if row.count(None) == len(row) - 1]
     while waiting:
         spot = waiting.pop()
         lanes = lanes_of(left[spot])

@@ -42,6 +42,11 @@ def leader_of_all(many, pairs):
     check_many(many)
     if not is_pair_list(many, pairs):
         raise InvalidList(pairs)
+    return first_leader(many, pairs)
+
+
+def first_leader(many, pairs):
+    """The same for pairs of words of any number, without checks."""
     found = [(split_root(reduced(one))[0], leader(many, one, other)) for one, other in pairs]
     if not all([last is not None for _, last in found]):
         return None

@@ -7,14 +7,16 @@ import time
 from signlanes.bases import basis
 from signlanes.errors import FoldError, InvalidWord
 from signlanes.groups import Group, group_of
+from signlanes.lettermaps import LetterMap
 from signlanes.pictures import picture_rows
 from signlanes.wordsets import words_of
 
 SIGNS = "aAbBcCdDeEfF"
 GROUP = Group(2, ["aa", "b"])
 SET = words_of(2, ["a", "bb"])
+MAP = LetterMap(2, ["ab", "b"])
 
-ODD = [None, True, False, (), {}, {"a": 1}, [[1], None], ("a", 1), [[[["a"]]]], GROUP, SET, InvalidWord("a"),
+ODD = [None, True, False, (), {}, {"a": 1}, [[1], None], ("a", 1), [[[["a"]]]], GROUP, SET, MAP, InvalidWord("a"),
        FoldError()]
 WRONG_MANY = ODD + [0, 7, -1, 10 ** 29, "2", "", "a", [], [2], (2,), ["a"]]
 WRONG_COUNT = ODD + [-1, -10 ** 29, "1", "", [], [1], (1,)]
@@ -25,6 +27,7 @@ WRONG_WORDS = ODD + [0, 3, "", "ab", ("a",), ("a", "b"), [None], ["a", True], ["
 WRONG_LIST = WRONG_WORDS + [["a"] * 13, ["a", "b" * 201], [""] * 13]
 WRONG_GROUP = [value for value in ODD if value is not GROUP] + [0, 1, "a", [], ["aa"], [[0, 0]], (2, ["a"])]
 WRONG_SET = [value for value in ODD if value is not SET] + [0, 1, "a", [], ["aa"], [[1, 1]], (2, ["a"])]
+WRONG_MAP = [value for value in ODD if value is not MAP] + [0, 1, "a", [], ["ab", "b"], (2, ["ab", "b"])]
 UNLIKE_GROUPS = [Group(1, ["a"]), Group(3, []), Group(6, list("abcdef"))]
 
 

@@ -67,3 +67,9 @@ def check_short_list(many, words):
     """Refuse what is no list of words of which a group is made."""
     if not is_short_list(many, words):
         raise InvalidList(words)
+
+
+def check_word_row(many, words):
+    """Refuse what is no list of at most 12 words for so many letters."""
+    if not is_word_list(many, words, MOST_SIGNS) or len(words) > MOST_WORDS:
+        raise InvalidList(words)

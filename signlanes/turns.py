@@ -17,7 +17,15 @@ def first_turn(many, word):
     check_many(many)
     check_word(many, word)
     _, ring = split_hair(reduced(word))
-    return min([ring[at:] + ring[:at] for at in range(max(1, len(ring)))], key=order_key)
+    return first_of_turns(ring)
+
+
+def first_of_turns(ring):
+    """The first turn, in the order of words, of a round word."""
+    # Put into letters whose order is Python's, so that each turn need not be.
+    ordered = ring.translate(str.maketrans("aAbBcCdDeEfF", "abcdefghijkl"))
+    first = min([ordered[at:] + ordered[:at] for at in range(max(1, len(ring)))])
+    return first.translate(str.maketrans("abcdefghijkl", "aAbBcCdDeEfF"))
 
 
 def period(ring):

@@ -40,8 +40,18 @@ wordsets: all_words(many); no_words(many); words_of(many, words); other_words(wo
  first_unlike_word(one, other); within(one, other)
 setproducts: products(one, other); opposites(words); all_products(words); group_words(group); made_group(words);
  is_group(words); double_class(one, word, other); led_into(group, word); images(many, words, given)
+setnumbers: how_many_in(words); how_many_of(words, signs); place_in(words, word); word_in(words, number)
+lettermaps: image(lettermap, word); composed(first, second); counts(lettermap); is_onto(lettermap);
+ is_one_to_one(lettermap); led_back(lettermap, word); map_back(lettermap); group_led(lettermap, group);
+ group_led_back(lettermap, group); leader_between(one, other)
+moves: is_move(many, words, value); moved(many, words, move)
+chains: level(many, word); least_row(many, words); chain(many, one, other); is_chain(many, one, other, value);
+ collapse(lettermap)
+roundrows: is_round_row(many, value); row_of(many, words); is_cut(many, value); row_moved(many, row, cut);
+ undoing(many, cut); letter_images(many, cuts)
 """
 CLASSES = {("groups", "Group"): ("many, words", ["many", "rank", "picture", "__eq__"], []),
+           ("lettermaps", "LetterMap"): ("into, words", ["many", "into", "words", "__eq__"], []),
            ("wordsets", "WordSet"): ("many, states, lanes, ends",
                                      ["many", "rows", "ends", "__and__", "__or__", "__sub__", "__contains__", "__eq__"],
                                      ["empty", "finite"])}

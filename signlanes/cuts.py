@@ -50,3 +50,12 @@ def cut_back(cut):
         return (sign.swapcase(), side.replace(sign, sign.swapcase()))
     letters = sorted([(turned.lower(), at, turned.isupper()) for at, turned in enumerate(cut)])
     return "".join([SIGNS[2 * at + 1] if opposite else SIGNS[2 * at] for _, at, opposite in letters])
+
+
+def single_renamings(many):
+    """Renamings of which all others are made: one letter led to its opposite, and neighbours exchanged."""
+    letters = [SIGNS[2 * letter] for letter in range(many)]
+    found = ["A" + "".join(letters[1:])]
+    for at in range(many - 1):
+        found.append("".join(letters[:at] + [letters[at + 1], letters[at]] + letters[at + 2:]))
+    return found

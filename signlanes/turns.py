@@ -38,8 +38,13 @@ def leader(many, one, other):
     check_many(many)
     check_word(many, one)
     check_word(many, other)
-    hair, ring = split_hair(reduced(one))
-    other_hair, other_ring = split_hair(reduced(other))
+    return first_leading(reduced(one), reduced(other))
+
+
+def first_leading(one, other):
+    """The first word that leads a plain word to another one, None without one."""
+    hair, ring = split_hair(one)
+    other_hair, other_ring = split_hair(other)
     at = (ring + ring).find(other_ring)
     if len(ring) != len(other_ring) or at < 0:
         return None

@@ -102,9 +102,21 @@ class LanguageTest(unittest.TestCase):
             for node in tree.body[1:]:
                 self.assertIsInstance(node, (ast.ImportFrom, ast.FunctionDef, ast.ClassDef, ast.Assign), path.name)
                 if isinstance(node, ast.Assign):
-                    ast.literal_eval(node.value)
+                    self.check_plain_value(node, tree)
             names = defined(tree) + [alias.name for node in imports_of(tree) for alias in node.names]
             self.assertEqual(len(names), len(set(names)), path.name)
+
+    def check_plain_value(self, assigned, tree):
+        """Check that a value is written out, or is a table of functions that are defined above."""
+        value = assigned.value
+        if isinstance(value, ast.Dict) and any(isinstance(item, ast.Name) for item in value.values):
+            above = [node.name for node in tree.body if isinstance(node, ast.FunctionDef)
+                     and node.lineno < assigned.lineno]
+            self.assertLessEqual({item.id for item in value.values}, set(above))
+            for key in value.keys:
+                ast.literal_eval(key)
+        else:
+            ast.literal_eval(value)
 
     def test_nodes(self):
         for path, tree in trees():

@@ -64,7 +64,9 @@ class Reading:
     def take_word(self, parts):
         """Read a line with a word, or with none for the empty word."""
         word = "".join(parts)
-        if len(parts) > 1 or len(self.word_list) == MOST_WORDS or not is_spelled(self.letter_count, word, MOST_WORD_SIGNS):
+        if len(parts) > 1 or len(self.word_list) == MOST_WORDS:
+            return False
+        if not is_spelled(self.letter_count, word, MOST_WORD_SIGNS):
             return False
         self.word_list.append(word)
         return True

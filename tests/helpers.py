@@ -8,6 +8,7 @@ from signlanes.bases import basis
 from signlanes.errors import FoldError, InvalidWord
 from signlanes.groups import Group, group_of
 from signlanes.lettermaps import LetterMap
+from signlanes.listbook import ListBook
 from signlanes.pictures import picture_rows
 from signlanes.wordsets import words_of
 
@@ -15,9 +16,10 @@ SIGNS = "aAbBcCdDeEfF"
 GROUP = Group(2, ["aa", "b"])
 SET = words_of(2, ["a", "bb"])
 MAP = LetterMap(2, ["ab", "b"])
+BOOK = ListBook(2, ["ab"])
 
-ODD = [None, True, False, (), {}, {"a": 1}, [[1], None], ("a", 1), [[[["a"]]]], GROUP, SET, MAP, InvalidWord("a"),
-       FoldError()]
+ODD = [None, True, False, (), {}, {"a": 1}, [[1], None], ("a", 1), [[[["a"]]]], GROUP, SET, MAP, BOOK,
+       InvalidWord("a"), FoldError()]
 WRONG_MANY = ODD + [0, 7, -1, 10 ** 29, "2", "", "a", [], [2], (2,), ["a"]]
 WRONG_COUNT = ODD + [-1, -10 ** 29, "1", "", [], [1], (1,)]
 WRONG_WHOLE = ODD + ["1", "", [], [1], (1,)]

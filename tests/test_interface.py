@@ -49,9 +49,19 @@ chains: level(many, word); least_row(many, words); chain(many, one, other); is_c
  collapse(lettermap)
 roundrows: is_round_row(many, value); row_of(many, words); is_cut(many, value); row_moved(many, row, cut);
  undoing(many, cut); letter_images(many, cuts)
+leastrows: ties(many, row); change(many, row, cut); least(many, row); least_paper(many, row);
+ is_least_paper(many, row, value)
+ledrows: level_rows(many, row); rows_led(many, one, other); is_led(many, one, other, value)
+blocks: basis_with(many, word); blocks(many, row)
+grouptexts: words_text(many, words); picture_text(group); read_words(text); read_picture(text); wrong_line(text)
+listdeeds: is_deed(many, words, value); changed(many, words, deed); keeps_group(many, words, deed);
+ paper_behind(many, words, deed, paper); spots_led(one, other)
+listbook: member_since(book, word); parting_since(book, since); spot_since(book, since, spot)
 """
 CLASSES = {("groups", "Group"): ("many, words", ["many", "rank", "picture", "__eq__"], []),
            ("lettermaps", "LetterMap"): ("into, words", ["many", "into", "words", "__eq__"], []),
+           ("listbook", "ListBook"): ("many, words", ["do", "undo", "redo", "together", "log", "groups", "copy",
+                                                      "__eq__"], ["standing", "group", "many_deeds"]),
            ("wordsets", "WordSet"): ("many, states, lanes, ends",
                                      ["many", "rows", "ends", "__and__", "__or__", "__sub__", "__contains__", "__eq__"],
                                      ["empty", "finite"])}

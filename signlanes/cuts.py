@@ -13,7 +13,7 @@ def is_cut_or_renaming(many, value):
 
 def is_renaming(many, value):
     """Whether a value is a string of signs, one for each letter, of unlike letters."""
-    return is_spelled(many, value, many) and len(value) == many and len(set(value.lower())) == many
+    return is_spelled(many, value, many) and len(set(value.lower())) == many
 
 
 def is_side_cut(many, value):
@@ -21,10 +21,11 @@ def is_side_cut(many, value):
     if not isinstance(value, tuple) or len(value) != 2:
         return False
     sign, side = value
-    if not is_spelled(many, sign, 1) or sign == "" or not is_spelled(many, side, MOST_CUT_SIGNS):
+    if not is_spelled(many, sign, 1) or not is_spelled(many, side, MOST_CUT_SIGNS):
         return False
     if side != "".join([known for known in SIGNS if known in side]):
         return False
+    # The empty string is in each side, and so is its opposite.
     return sign in side and sign.swapcase() not in side
 
 

@@ -60,8 +60,8 @@ def send_along(left, signs, number):
 def single_ways(table, left, source):
     """The ways, by one each, of which a flow from a sign to its opposite consists."""
     flow = [[max(0, ties - rest) for ties, rest in zip(row, left_row)] for row, left_row in zip(table, left)]
-    ways = []
-    for _ in range(sum(flow[source]) - sum([row[source] for row in flow])):
+    size, ways = sum(flow[source]) - sum([row[source] for row in flow]), []
+    while len(ways) < size:
         way = [source]
         while way[-1] != source ^ 1:
             target = next_sign(flow[way[-1]])

@@ -37,12 +37,7 @@ def rows_led(many, one, other):
     search = LevelSearch(many, first)
     if not search.has(last):
         return ("apart", search.sorted_rows())
-    between = search.cuts_to(last)
-    # What both do alike at last need not be done and undone.
-    while between == [] and cuts and other_cuts and cuts[-1] == other_cuts[-1]:
-        cuts.pop()
-        other_cuts.pop()
-    return ("led", cuts + between + [cut_back(cut) for cut in other_cuts[::-1]])
+    return ("led", cuts + search.cuts_to(last) + [cut_back(cut) for cut in other_cuts[::-1]])
 
 
 def is_led(many, one, other, value):

@@ -20,6 +20,6 @@ def moved(many, words, move):
     if not is_row_move(len(words), move):
         raise InvalidMove(move)
     row = done([reduced(word) for word in words], move)
-    if move[0] == "times" and len(row[move[1]]) > MOST_SIGNS:
+    if len(row[move[1]]) > MOST_SIGNS:
         raise TooLong(len(row[move[1]]))
     return row

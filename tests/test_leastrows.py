@@ -203,7 +203,7 @@ class LeastPaperTest(unittest.TestCase):
         wrong_ones = 0
         for _ in range(150):
             many = chance.randint(1, 4)
-            _, row = least(many, random_row(chance, many, 7))
+            _, row = least(many, random_row(chance, many, 9))
             paper = least_paper(many, row)
             for bent in self.bent(chance, many, paper):
                 right = slow_is_paper(many, row, bent)
@@ -226,6 +226,9 @@ class LeastPaperTest(unittest.TestCase):
                      paper[letter][:at] + [way[0] + way[-1]] + paper[letter][at + 1:],
                      [way] * len(paper[letter]), []):
             yield paper[:letter] + [ways] + paper[letter + 1:]
+        for sign in SIGNS[:2 * many]:
+            detour = way[:middle] + sign + way[middle - 1:]
+            yield paper[:letter] + [paper[letter][:at] + [detour] + paper[letter][at + 1:]] + paper[letter + 1:]
         yield paper[1:] + paper[:1]
         yield paper[:-1]
         yield paper + [[]]
@@ -238,6 +241,16 @@ class LeastPaperTest(unittest.TestCase):
                              ([["abaBA", "aBA"], ["baB", "bAB"]], False), ([["abABA", "aBA"], ["baB", "bAB"]], False),
                              ([["", "aBA"], ["baB", "bAB"]], False), ([["a", "aBA"], ["baB", "bAB"]], False)):
             self.assertIs(is_least_paper(2, row, value), right)
+        # A way may go to a sign and back again, if there are ties for both directions together.
+        for row, way, right in ((["abAB", "bb"], "abBbA", True), (["abAB", "b"], "abBbA", False),
+                                (["abAB", "bb"], "abBbBA", False), (["abAB", "bbb"], "abBbBbA", False),
+                                (["abAB", "bb", "bb"], "abBbBbA", True), (["abAB", "b"], "abBA", False)):
+            ways = ["baB", "bAB"] + ["bB"] * (size(row) - 4)
+            self.assertIs(is_least_paper(2, row, [[way, "aBA"], ways]), right)
+        for ways, right in ((["abBbA", "aBA"], True), (["aBA", "abBbA"], True), (["aBbBA", "abA"], True),
+                            (["aBbBA", "abBbA"], False)):
+            self.assertIs(is_least_paper(2, ["abAB", "bb"], [ways, ["baB", "bAB", "bB", "bB"]]), right)
+        self.assertIs(is_least_paper(2, ["abAB", "bb"], [["abBA", "aBbA"], ["baB", "bAB", "bB", "bB"]]), True)
         # A way may come to a sign twice, as long as there are ties.
         row = ["aabAB"]
         for ways in (["aA", "abA", "aBA"], ["aA", "aBA", "abA"]):

@@ -177,7 +177,7 @@ class RowsLedTest(unittest.TestCase):
                                        (3, ["a", "a"], ["a", "b"], "apart"), (3, ["a", "b"], ["B", "abc"], "led"),
                                        (2, ["a", "b"], ["a", "ab"], "led"), (2, ["a", "b"], ["a", "abb"], "sizes")):
             self.assertEqual(self.check(many, one, other), kind)
-        self.assertEqual(rows_led(2, ["aab"], ["aab"]), ("led", []))
+        self.assertEqual(rows_led(2, ["abAB"], ["abAB"]), ("led", []))
         self.assertEqual(rows_led(2, ["aabb"], ["abAB"]), ("apart", level_rows(2, ["aabb"])))
         self.assertEqual(rows_led(2, ["aB"], ["aa"]), ("sizes", 1, 2))
 

@@ -99,6 +99,28 @@ class LevelRowTest(unittest.TestCase):
             self.assertEqual(found is not None, len(slow) > 600)
             self.assertTrue(found is not None or level_rows(3, row) == slow)
 
+    def test_just_as_many_rows_as_may_be(self):
+        for many, times in ((2, 74), (3, 24)):
+            row, longer = (row_of(many, ["a", "a" + "b" * times]) for times in (times, times + 1))
+            found = check_quick(self, 5, level_rows, many, row)
+            self.assertEqual(len(found), 600)
+            self.assertEqual(found, sorted(found, key=lambda led: [place(word) for word in led]))
+            self.assertEqual(len({tuple(led) for led in found}), 600)
+            self.assertTrue(all(size(led) == size(row) for led in found))
+            error = told(level_rows, many, longer)
+            self.assertEqual((type(error), error.value), (TooMany, 601))
+            found = rows_led(many, row, row[::-1])
+            self.assertIs(is_led(many, row, row[::-1], found) and found[0] == "led", True)
+            apart = ["aa", "b" * times]
+            found = rows_led(many, row, apart)
+            self.assertEqual((found[0], len(found[1])), ("apart", 600))
+            self.assertIs(is_led(many, row, apart, found), True)
+            # Only the rows of the first row are counted.
+            apart = ["aa", "b" * (times + 1)]
+            self.assertIs(type(told(rows_led, many, longer, apart)), TooMany)
+            self.assertIs(type(told(is_led, many, longer, apart, found)), TooMany)
+            self.assertEqual(rows_led(many, apart, longer), ("apart", level_rows(many, apart)))
+
     def test_limits(self):
         chance = chance_of(272)
         for many in (1, 2, 3):

@@ -42,9 +42,9 @@ def greatest_flow(table, source):
     left, total = [list(row) for row in table], 0
     goes, signs = way_along(left, source, source ^ 1)
     while goes:
-        least = min([left[signs[at]][signs[at + 1]] for at in range(len(signs) - 1)])
-        send_along(left, signs, least)
-        total += least
+        number = min([left[signs[at]][signs[at + 1]] for at in range(len(signs) - 1)])
+        send_along(left, signs, number)
+        total += number
         goes, signs = way_along(left, source, source ^ 1)
     return (total, left, signs)
 

@@ -32,26 +32,37 @@ def ended(lines):
     return "".join([line + "\n" for line in lines])
 
 
-def reading_of(text):
-    """What has been read of a whole text, None unless some text that is read begins with it."""
-    reading = Reading()
-    if not isinstance(text, str) or not all([reading.take(parts_of(line)) for line in lines_of(text)]):
-        return None
+def reading_of(lines):
+    """What is read of lines, and how many are taken: as many ahead as some text that is read begins with."""
+    reading, taken = Reading(), 0
+    while taken < len(lines) and reading.take(parts_of(lines[taken])):
+        taken += 1
+    return (reading, taken)
+
+
+def whole_reading(text):
+    """What is read of a text all lines of which are taken."""
+    if not isinstance(text, str):
+        raise InvalidLines(text)
+    lines = lines_of(text)
+    reading, taken = reading_of(lines)
+    if taken < len(lines):
+        raise InvalidLines(text)
     return reading
 
 
 def read_words(text):
     """The number of letters and the words of a text of a list."""
-    reading = reading_of(text)
-    if reading is None or not reading.is_list():
+    reading = whole_reading(text)
+    if not reading.is_list():
         raise InvalidLines(text)
     return (reading.letter_count, reading.word_list)
 
 
 def read_picture(text):
     """The group whose words are read from spot 0 back to it, for a text like that of a picture."""
-    reading = reading_of(text)
-    if reading is None or not reading.is_picture():
+    reading = whole_reading(text)
+    if not reading.is_picture():
         raise InvalidLines(text)
     rows = [[None] * (2 * reading.letter_count) for _ in range(reading.spot_count)]
     for letter, targets in enumerate(reading.lane_targets):
@@ -66,8 +77,8 @@ def wrong_line(text):
     """The number of the first line up to which no text that is read begins so, None for one that is read."""
     if not isinstance(text, str):
         raise InvalidLines(text)
-    reading, lines = Reading(), lines_of(text)
-    for number, line in enumerate(lines, 1):
-        if not reading.take(parts_of(line)):
-            return number
-    return None if reading.is_list() or reading.is_picture() else len(lines) + 1
+    lines = lines_of(text)
+    reading, taken = reading_of(lines)
+    if taken == len(lines) and (reading.is_list() or reading.is_picture()):
+        return None
+    return taken + 1

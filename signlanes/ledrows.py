@@ -3,8 +3,8 @@
 from signlanes.checks import is_whole
 from signlanes.cuts import cut_back, is_cut_or_renaming
 from signlanes.errors import InvalidList, Unlike
-from signlanes.leastrows import least_behind, lessening_cut, size_of
 from signlanes.flows import tie_table
+from signlanes.leastrows import least_behind, lessening_cut, size_of
 from signlanes.levelsearch import LevelSearch
 from signlanes.roundrows import check_round_row, turned_row
 

@@ -2,9 +2,10 @@
 
 from signlanes.errors import TooMany
 from signlanes.groups import group_with
-from signlanes.pictures import MOST_SPOTS, Weave, numbered_rows
+from signlanes.pictures import MOST_SPOTS, Weave, numbered_rows, picture_rows
 from signlanes.signs import sign_numbers, undone
-from signlanes.trimming import pruned_rows
+from signlanes.strands import Strands, table_of_strands
+from signlanes.trimming import trimmed_picture
 
 
 def sides_of(words):
@@ -28,19 +29,21 @@ def exchanged(sides, word):
 def exchanged_group(many, rows, words):
     """The group, for so many letters, of what the words of a group with a picture become.
 
-    The lanes of each letter in that picture are exchanged for ways of its word.
+    The lanes of each letter in that picture are exchanged for ways of its word. They are put together
+    strand by strand of the picture of all words, since there may be far too many signs.
     """
-    size, ways = 2 * many, [sign_numbers(word) for word in words]
-    weave = Weave(size)
-    first = weave.put_table([[None] * size for _ in rows])
+    strands = Strands(picture_rows(many, words))
+    ways = [strands.read(sign_numbers(word)) for word in words]
+    weave = Weave(2 * len(strands.ways))
+    first = weave.put_table([[None] * weave.size for _ in rows])
     for spot, row in enumerate(rows):
         for letter, numbers in enumerate(ways):
             if row[2 * letter] is not None:
                 weave.put_path(weave.living(first + spot), weave.living(first + row[2 * letter]), numbers)
     start = weave.living(first)
-    pruned = pruned_rows(weave.lanes, start)
-    # All spots that have lanes are reached; far too many of them are counted, but not numbered.
-    spots = max(1, len(pruned) - pruned.count([None] * size))
+    pruned = trimmed_picture(weave.lanes, start)
+    found = strands.strands_in(pruned)
+    spots = len(pruned) + sum([len(signs) - 1 for _, signs, _ in found])
     if spots > MOST_SPOTS:
         raise TooMany(spots)
-    return group_with(many, numbered_rows(pruned, start))
+    return group_with(many, numbered_rows(table_of_strands(2 * many, len(pruned), found), 0))

@@ -315,6 +315,13 @@ class GroupLedTest(unittest.TestCase):
         error = told(check_quick, self, 8, group_led, lettermap, group)
         self.assertIs(type(error), TooMany)
         self.assertTrue(300 * (sizes - 100) < error.value <= 300 * (sizes + 1))
+        # A map that is returned may have words of far more signs.
+        longer = composed(LetterMap(6, ["ababa", "bcbcb", "cdcdc", "deded", "efefe", "fafaf"]), lettermap)
+        self.assertGreater(sum(map(len, longer.words())), 5700)
+        error = told(check_quick, self, 5, group_led, longer, group)
+        self.assertTrue(type(error) is TooMany and error.value > 100000)
+        twice = composed(lettermap, map_back(LetterMap(6, list("bcdefA"))))
+        self.assertEqual(told(group_led, lettermap, group).value, told(group_led, twice, group).value)
 
     def test_wrong(self):
         check_wrong(self, group_led, [LetterMap(3, ["aa", "b"]), Group(2, ["a"])],

@@ -49,12 +49,17 @@ class Strands:
 def table_of_strands(size, spots, strands):
     """A table of so many spots, and more, in which strands between them are lanes, sign by sign."""
     table = [[None] * size for _ in range(spots)]
-    for spot, signs, target in strands:
-        for at, sign in enumerate(signs):
-            if at < len(signs) - 1:
-                table.append([None] * size)
-            following = len(table) - 1 if at < len(signs) - 1 else target
-            table[spot][sign] = following
-            table[following][sign ^ 1] = spot
-            spot = following
+    for first, signs, last in strands:
+        spot = first
+        for sign in signs[:-1]:
+            table.append([None] * size)
+            lay(table, spot, sign, len(table) - 1)
+            spot = len(table) - 1
+        lay(table, spot, signs[-1], last)
     return table
+
+
+def lay(table, spot, sign, other):
+    """Lay a lane and its lane back."""
+    table[spot][sign] = other
+    table[other][sign ^ 1] = spot

@@ -9,7 +9,7 @@ from signlanes.errors import (InvalidGroup, InvalidList, InvalidMap, InvalidNumb
 from signlanes.groups import Group, belongs, group_of
 from signlanes.lettermaps import (LetterMap, composed, counts, group_led, group_led_back, image, is_one_to_one,
                                   is_onto, leader_between, led_back, map_back)
-from signlanes.meets import inside, led
+from signlanes.meets import led, meet
 from signlanes.within import leader_of_all
 from signlanes.words import power
 from tests.helpers import (SIGNS, WRONG_GROUP, WRONG_LIST, WRONG_MANY, WRONG_MAP, WRONG_WORD, back, chance_of,
@@ -355,7 +355,7 @@ class GroupLedBackTest(unittest.TestCase):
                 self.assertIs(belongs(found, word), belongs(group, image(lettermap, word)))
             for word in basis(found):
                 self.assertTrue(belongs(group, image(lettermap, word)))
-            self.assertTrue(inside(group_led(lettermap, found), group))
+            self.assertEqual(group_led(lettermap, found), meet(group, Group(into, lettermap.words())))
             self.assertEqual(group_led_back(lettermap, group_led(lettermap, found)), found)
             shapes.add((min(found.rank(), 3), how_many_classes(found) is None, how_many_classes(group) is None))
         self.assertGreater(len(shapes), 6)
@@ -412,6 +412,7 @@ class GroupLedBackTest(unittest.TestCase):
             lettermap, group = LetterMap(6, words), group_of(6, full_picture(chance, 6, 30))
             if is_one_to_one(lettermap):
                 found = check_quick(self, 5, group_led_back, lettermap, group)
+                self.assertEqual(group_led(lettermap, found), meet(group, Group(6, words)))
                 for _ in range(30):
                     word = random_word(chance, 6, chance.randint(1, 5))
                     self.assertIs(belongs(found, word), belongs(group, image(lettermap, word)))
